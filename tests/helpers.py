@@ -1,0 +1,100 @@
+"""What the tests share: any objects, drawn fields, and a time limit."""
+
+import signal
+from contextlib import contextmanager
+from itertools import combinations
+
+from twoworlds.files import File
+from twoworlds.shares import Shares
+from twoworlds.sums import Sums
+from twoworlds.tables import Table
+from twoworlds.views import View
+
+
+def any_objects():
+    """Objects of all kinds, new ones each time."""
+    table = Table([{"a": 1}])
+    return [
+        None, True, False, 0, 1, -1, 2, 10 ** 14, "", "a", "b", "zz", "A", "a b", "abc", (), [], {}, (1,), [1], (1, 2),
+        [0, 1], ["a"], ("a", "b"), ["a", "a"], ["a", 1], ["a", None], [["a"]], [{}], [{}, {}], ({}, {}), {"a": 1},
+        {"a": True}, {"a": None}, {"a": "b"}, {"a": ["a"]}, {"a": (1, 2)}, {"a": (1, 0)}, {1: 1}, {True: 1}, {None: 1},
+        {(): 0}, {(1,): 1}, {("a",): 1}, {(True,): 1}, {(1, 2): True}, {"": 1}, {"a": {}}, {"a": {"a": 1}},
+        ("a", {}), ["a", {0: 0}], ("a", {0: {}}), [("a", 1)], [[[[]]]], table, [table], {"a": table}, (table, table),
+        View(table, {"v": "a"}), File(table), Sums(["x"], {"a": ({"x": 1}, 0)}), Shares(2, ["x"], {"a": {"x": 1}}),
+    ]
+
+
+def not_integers():
+    """Objects that are no integers from 0 on."""
+    return [thing for thing in any_objects() if type(thing) is not int or thing < 0]
+
+
+def caught(error, work, *rest, **more):
+    """The error that a call raises, which is of just this class; None if it raises none."""
+    try:
+        work(*rest, **more)
+    except error as e:
+        assert type(e) is error, e
+        return e
+    return None
+
+
+def subsets(names):
+    """All lists of some names, in their order, shorter ones first."""
+    return [list(some) for many in range(len(names) + 1) for some in combinations(names, many)]
+
+
+def drawn_table(rng, most_rows=8, most_questions=5, most_answer=2):
+    """A small table, rows in drawn orders of their keys."""
+    names = ["b", "a", "d", "c", "e", "f"][:rng.randint(1, most_questions)]
+    rows = []
+    for _ in range(rng.randint(1, most_rows)):
+        order = rng.sample(names, len(names))
+        rows.append({name: rng.randint(-1, most_answer - 1) for name in order})
+    return Table([{name: rows[0][name] for name in names}, *rows[1:]])
+
+
+def drawn_names(rng, names):
+    """Some of the names, in a drawn order."""
+    return rng.sample(names, rng.randint(0, len(names)))
+
+
+def drawn_sums(rng, most_unknowns=4, most_questions=6, most=5, moduli=(0, 0, 2, 3, 4, 6, 9)):
+    """A small field of sums, rows with unknowns in a drawn order, zeros among them."""
+    unknowns = ["y", "x", "z", "w", "v", "u"][:rng.randint(1, most_unknowns)]
+    questions = {}
+    for place in range(rng.randint(1, most_questions)):
+        some = drawn_names(rng, unknowns)
+        questions[f"q{place}"] = ({name: rng.randint(-most, most) for name in some}, rng.choice(moduli))
+    return Sums(unknowns, questions)
+
+
+def drawn_world(rng, sums, most=30):
+    """A world of sums."""
+    return {name: rng.randint(-most, most) for name in sums.unknowns()}
+
+
+def sum_of(sums, name, world):
+    """The sum of a question in a world, by the plain rule."""
+    row = sums.row(name)[0]
+    return sum(row[unknown] * world[unknown] for unknown in row)
+
+
+def plainly_told(rows, known, asked):
+    """Whether any two rows that agree in known agree in asked."""
+    return all(one[asked] == other[asked] for one in rows for other in rows
+               if all(one[name] == other[name] for name in known))
+
+
+@contextmanager
+def within(seconds):
+    """Fails if what is done takes longer."""
+    def stop(number, frame):
+        raise AssertionError(f"longer than {seconds} seconds")
+    before = signal.signal(signal.SIGALRM, stop)
+    signal.setitimer(signal.ITIMER_REAL, seconds)
+    try:
+        yield
+    finally:
+        signal.setitimer(signal.ITIMER_REAL, 0)
+        signal.signal(signal.SIGALRM, before)

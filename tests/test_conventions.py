@@ -1,0 +1,166 @@
+"""Promises [3] and [4] across the package: what is passed stays, and calls by names tell the same."""
+
+import copy
+import inspect
+import unittest
+
+from tests.helpers import caught
+from twoworlds import clashes, engine, hands, ladders, shares, sums, trees
+from twoworlds.errors import NoQuestion, WorldError
+from twoworlds.files import File
+from twoworlds.shares import Shares
+from twoworlds.sums import Sums
+from twoworlds.tables import Table
+from twoworlds.views import View
+
+TABLE = Table([{"a": x, "b": y, "c": x, "s": x ^ y} for x in (0, 1) for y in (0, 1)])
+SUMS = Sums(["x", "y"], {"a": ({"x": 1, "y": 1}, 0), "b": ({"x": 1, "y": -1}, 0), "c": ({"x": 2}, 4), "s": ({"x": 1}, 0)})
+SHARES = Shares(5, ["x", "y"], {"a": {"x": 1, "y": 1}, "b": {"x": 1, "y": 4}, "c": {"x": 2}, "s": {"x": 1}})
+VIEW = View(TABLE, {"a": "a", "b": "b", "c": "c", "s": "s"})
+FIELDS = {"table": TABLE, "sums": SUMS, "shares": SHARES, "view": VIEW}
+HANDS = {"jo": ["a"], "al": ["b", "c"], "kay": []}
+
+
+def field_calls(field):
+    """Calls of the methods of a field, as pairs of a function and its arguments by position."""
+    known, world = ["b", "a"], field.home()
+    plan = field.plan(known, "s")
+    return [(field.questions, []), (field.home, []), (field.answers, [world]), (field.is_told, [known, "s"]),
+            (field.is_told, [["c"], "b"]), (field.plan, [known, "s"]), (field.is_plan, [known, "s", plan]),
+            (field.found, [known, "s", plan, field.answers(world)]), (field.apart, [["c"], "b"]),
+            (field.apart, [known, "s"]), (field.are_apart, [["c"], "b", field.apart(["c"], "b")]),
+            (engine.told_by, [field, known]), (engine.is_closed, [field, known]),
+            (engine.needless, [field, ["c", "a", "b"], "s"]), (engine.thinned, [field, ["c", "a", "b"], "s"]),
+            *[(work, [field, "s", of]) for of in (None, ["s", "b", "a"], [])
+              for work in (engine.least_files, engine.secrets, engine.needed, engine.idle)],
+            (hands.knows, [field, HANDS, ["al", "jo"], "s"]), (hands.least_groups, [field, HANDS, "s"]),
+            (hands.outsiders, [field, HANDS, "s"]), (hands.may_tell, [field, HANDS, "al", "s"]),
+            (hands.is_safe, [field, HANDS, 1, "s"])]
+
+
+def other_calls():
+    """The same for what belongs to one kind of field."""
+    tree, held = trees.fewest(TABLE, "s")[1], trees.hold(TABLE, "s", 2)
+    answers, bad = {"a": 5, "b": 3}, {"a": 5, "b": 2}
+    return [(TABLE.rows, []), (TABLE.left, [{"a": 1}]), (TABLE.may_be, [{"a": 1}, "s"]), (TABLE.only, [["s", "a"]]),
+            (VIEW.names, []), (SUMS.unknowns, []), (SUMS.row, ["b"]), (SHARES.unknowns, []), (SHARES.row, ["b"]),
+            (trees.is_tree, [TABLE, "s", tree, ["a", "b"]]), (trees.depth_of, [TABLE, "s", tree, None]),
+            (trees.fewest, [TABLE, "s", ["b", "a"]]), (trees.mean_fewest, [TABLE, [1, 2, 3, 4], "s", None]),
+            (trees.hold, [TABLE, "s", 2, ["a", "c", "b"]]), (trees.is_hold, [TABLE, "s", 2, held, None]),
+            (sums.step, [SUMS, ["a"], "b"]), (sums.parted, [SUMS, ["a"], "b", 6]), (sums.helps, [SUMS, ["a"], "b"]),
+            (clashes.world_of, [SUMS, answers]), (clashes.clash, [SUMS, bad]),
+            (clashes.is_clash, [SUMS, bad, clashes.clash(SUMS, bad)]), (clashes.may_be, [SUMS, answers, "c"]),
+            (ladders.ladder, [SUMS, ["c", "a"]]), (shares.world_count, [SHARES, {"a": 1}]),
+            (shares.spread, [SHARES, {"a": 1}, "s"]), (shares.handed_out, [5, ["jo", "al"], 2]), (Table, [TABLE.rows()]),
+            (View, [TABLE, {"x": "a"}]), (Sums, [["x"], {"a": ({"x": 1}, 0)}]), (Shares, [3, ["x"], {"a": {"x": 1}}])]
+
+
+def all_calls():
+    return [call for field in FIELDS.values() for call in field_calls(field)] + other_calls()
+
+
+def swapped(thing, top=True):
+    """Lists where tuples stand, and the other way round, also within others; keys stay as they are."""
+    if isinstance(thing, list):
+        return tuple(swapped(part, False) for part in thing)
+    if isinstance(thing, tuple):
+        return [swapped(part, False) for part in thing]
+    if isinstance(thing, dict):
+        return {key: swapped(part, False) for key, part in thing.items()}
+    return thing
+
+
+def kinds(thing):
+    """The kinds of a thing, keys of dicts in their order."""
+    if isinstance(thing, (list, tuple)):
+        return type(thing).__name__, [kinds(part) for part in thing]
+    if isinstance(thing, dict):
+        return "dict", [(key, kinds(part)) for key, part in thing.items()]
+    if isinstance(thing, (Table, View, Sums, Shares)):
+        return type(thing).__name__
+    return type(thing).__name__, thing
+
+
+def lists_in(thing):
+    """All lists and dicts within a thing."""
+    if isinstance(thing, (list, tuple)):
+        return ([thing] if isinstance(thing, list) else []) + [one for part in thing for one in lists_in(part)]
+    if isinstance(thing, dict):
+        return [thing] + [one for part in thing.values() for one in lists_in(part)]
+    return []
+
+
+class TestCalls(unittest.TestCase):
+    def test_the_same_by_names_and_with_lists_for_tuples(self):
+        for work, rest in all_calls():
+            with self.subTest(work=work.__name__, rest=rest):
+                told = work(*rest)
+                names = list(inspect.signature(work).parameters)
+                more = dict(list(zip(names, rest))[::-1])
+                self.assertEqual(kinds(work(**more)), kinds(told))
+                self.assertEqual(work(**more), told)
+                other = work(*[swapped(one) for one in rest])
+                self.assertEqual(other, told)
+                self.assertEqual(kinds(other), kinds(told))
+
+    def test_what_is_passed_stays(self):
+        for work, rest in all_calls():
+            with self.subTest(work=work.__name__, rest=rest):
+                before = copy.deepcopy(rest)
+                kept = kinds(rest)
+                work(*rest)
+                self.assertEqual(rest, before)
+                self.assertEqual(kinds(rest), kept)
+
+    def test_what_is_returned_is_new(self):
+        for work, rest in all_calls():
+            with self.subTest(work=work.__name__, rest=rest):
+                told = work(*rest)
+                before = kinds(told)
+                passed = [id(one) for one in lists_in(rest)]
+                within = lists_in(told)
+                self.assertEqual(len({id(one) for one in within}), len(within))
+                for one in within:
+                    self.assertNotIn(id(one), passed)
+                for one in within:
+                    one.clear()
+                self.assertEqual(kinds(work(*rest)), before)
+
+    def test_dicts_in_the_order_of_the_questions(self):
+        for field in FIELDS.values():
+            self.assertEqual(list(field.answers(dict(list(field.home().items())[::-1]))), ["a", "b", "c", "s"])
+        for field in (SUMS, SHARES):
+            self.assertEqual(list(field.plan(["b", "a"], "s")), ["b", "a"])
+            self.assertEqual(list(field.plan(["a", "b"], "s")), ["a", "b"])
+
+    def test_errors_are_of_the_package(self):
+        for work, rest in all_calls():
+            for place in range(len(rest)):
+                if not isinstance(rest[place], (Table, View, Sums, Shares)):
+                    bent = [*rest[:place], object(), *rest[place + 1:]]
+                    with self.subTest(work=work.__name__, place=place):
+                        try:
+                            work(*bent)
+                        except WorldError as e:
+                            self.assertEqual(type(e).__bases__, (WorldError,))
+
+    def test_refused_calls_change_nothing(self):
+        file = File(TABLE)
+        file.learn("a")
+        for work in (file.learn, file.forget, file.tells):
+            self.assertIsNotNone(caught(NoQuestion, file.learn, []))
+            with self.assertRaises(WorldError):
+                work({})
+        self.assertEqual((file.known(), file.undo(), file.undo()), (["a"], True, False))
+        before = {name: [kinds(work(*rest)) for work, rest in field_calls(field)] for name, field in FIELDS.items()}
+        for field in FIELDS.values():
+            for work, rest in field_calls(field):
+                if rest and rest[0] is not field:
+                    with self.assertRaises(WorldError):
+                        work(None, *rest[1:])
+        self.assertEqual({name: [kinds(work(*rest)) for work, rest in field_calls(field)]
+                          for name, field in FIELDS.items()}, before)
+
+
+if __name__ == "__main__":
+    unittest.main()

@@ -1,0 +1,166 @@
+"""Promises [5], [27] and [40]: each function at the sizes that the document names, under a time limit."""
+
+import random
+import unittest
+
+from tests.helpers import subsets, within
+from twoworlds import clashes, engine, hands, ladders, shares, sums, trees
+from twoworlds.files import File
+from twoworlds.shares import Shares
+from twoworlds.sums import Sums
+from twoworlds.tables import Table
+from twoworlds.views import View
+
+SECONDS = 20
+PRIMES = (999999999999989, 999999999999947, 10 ** 15 - 1, 2, 720720 ** 2)
+
+
+def large_table(rng, questions=16, rows=60, most=3):
+    names = [f"question{place}" for place in range(questions)]
+    return Table([{name: rng.randrange(most) for name in names} for _ in range(rows)])
+
+
+def large_sums(rng, moduli, sparse=False):
+    unknowns = [f"unknown{place}" for place in range(6)]
+    return Sums(unknowns, {f"q{place}": (
+        {name: rng.randint(-10 ** 15 + 1, 10 ** 15 - 1) for name in unknowns if not sparse or rng.random() < 0.4},
+        rng.choice(moduli)) for place in range(10)})
+
+
+class TestTables(unittest.TestCase):
+    def test_engine_and_hands(self):
+        rng = random.Random(270)
+        for most in (2, 3, 1000):
+            table = large_table(rng, most=most)
+            names = table.questions()
+            view = View(View(table, {f"v{place}": names[place] for place in range(16)}),
+                        {f"w{place}": f"v{rng.randrange(16)}" for place in range(16)})
+            for field in (table, view):
+                self.look(rng, field)
+
+    def look(self, rng, field):
+        names = field.questions()
+        of, asked = rng.sample(names, 9), names[0]
+        with within(SECONDS):
+            engine.told_by(field, names)
+            engine.is_closed(field, names[:8])
+            engine.needless(field, names[::-1], asked)
+            engine.thinned(field, names[::-1], asked)
+            for work in (engine.least_files, engine.secrets, engine.needed, engine.idle):
+                work(field, asked, of)
+            held = {f"hand{place}": rng.sample(names, 3) for place in range(7)}
+            for work in (hands.least_groups, hands.outsiders):
+                work(field, held, asked)
+            for name in held:
+                hands.may_tell(field, held, name, asked)
+            hands.is_safe(field, held, 7, asked)
+            plan = field.plan(names, asked)
+            self.assertTrue(field.is_plan(names, asked, plan))
+            self.assertEqual(field.found(names, asked, plan, field.answers(field.home())),
+                             field.answers(field.home())[asked])
+
+    def test_files(self):
+        rng = random.Random(20)
+        with within(SECONDS):
+            file = File(large_table(rng))
+            for place in range(16):
+                file.learn(f"question{place}")
+                file.told()
+            for _ in range(24):
+                file.forget(file.known()[0])
+                file.learn(f"question{rng.choice([k for k in range(16) if f'question{k}' not in file.known()])}")
+            while file.undo():
+                file.told()
+            while file.again():
+                file.copy().told()
+
+    def test_trees_and_holds(self):
+        rng = random.Random(240)
+        for most in (2, 2, 3, 4, 16):
+            table = large_table(rng, questions=7, rows=16, most=most)
+            names, asked = table.questions()[1:], table.questions()[0]
+            with within(SECONDS):
+                found = trees.fewest(table, asked, names)
+                weights = [rng.randint(1, 1000) for _ in range(16)]
+                mean = trees.mean_fewest(table, weights, asked, names)
+                for n in range(5):
+                    told = trees.hold(table, asked, n, names)
+                    self.assertEqual(told is None, found is not None and found[0] < n)
+                    self.assertEqual(trees.is_hold(table, asked, n, told, names), told is not None)
+                if found is not None:
+                    self.assertEqual(trees.depth_of(table, asked, found[1], names), found[0])
+                    self.assertTrue(trees.is_tree(table, asked, mean[1], names))
+
+    def test_no_tree_with_many_questions(self):
+        rows = [{f"q{place}": number >> place & 1 for place in range(4)} for number in range(16)]
+        table = Table([{**row, "x": 0, "y": at % 3, "s": at if at < 15 else 3} for at, row in enumerate(rows)])
+        with within(SECONDS):
+            self.assertEqual(trees.fewest(table, "s")[0], 4)
+            self.assertIsNotNone(trees.hold(table, "s", 4))
+            self.assertIsNotNone(trees.hold(table, "s", 4, ["q0", "q1", "q2", "x", "y"]))
+
+
+class TestSums(unittest.TestCase):
+    def test_large(self):
+        rng = random.Random(40)
+        for moduli in ((0,), PRIMES, (0, *PRIMES), (10 ** 15 - 1,), (0, 0, 2)):
+            for sparse in (False, True):
+                with within(SECONDS):
+                    self.look(rng, large_sums(rng, moduli, sparse))
+
+    def look(self, rng, field):
+        names = field.questions()
+        asked, known = names[9], rng.sample(names, 6)
+        for one in (known, names, names[:9], []):
+            plan, pair = field.plan(one, asked), field.apart(one, asked)
+            self.assertEqual(plan is None, pair is not None)
+            if plan is None:
+                self.assertTrue(field.are_apart(one, asked, pair))
+            else:
+                self.assertTrue(field.is_plan(one, asked, plan))
+            by = sums.step(field, one, asked)
+            for much in (by, by * (10 ** 68 // (by + 1)), 10 ** 70 - 1):
+                sums.parted(field, one, asked, much)
+            sums.helps(field, one, asked)
+            ladders.ladder(field, one)
+        for work in (engine.least_files, engine.secrets, engine.needed, engine.idle):
+            work(field, asked)
+        self.look_at_answers(rng, field, asked)
+        held = {f"hand{place}": rng.sample(names, 3) for place in range(7)}
+        hands.least_groups(field, held, asked)
+        hands.outsiders(field, held, asked)
+
+    def look_at_answers(self, rng, field, asked):
+        world = {name: rng.randrange(10 ** 70) for name in field.unknowns()}
+        answers = field.answers(world)
+        for many in (10, 6, 3):
+            self.assertIsNotNone(clashes.world_of(field, {name: answers[name] for name in rng.sample(
+                field.questions(), many)}))
+        drawn = {name: rng.randrange(field.row(name)[1] or 10 ** 70) for name in answers}
+        found = clashes.clash(field, drawn)
+        self.assertEqual(found is None, clashes.may_be(field, drawn, asked) is not None)
+        if found is not None:
+            self.assertTrue(clashes.is_clash(field, drawn, found))
+        thing = {name: (rng.randrange(10 ** 70), rng.randrange(1, 10 ** 70)) for name in answers}
+        self.assertFalse(clashes.is_clash(field, drawn, thing))
+        self.assertFalse(field.is_plan(field.questions(), asked, thing))
+
+    def test_shares(self):
+        rng = random.Random(41)
+        for prime in (2, 997):
+            unknowns = [f"u{place}" for place in range(6)]
+            field = Shares(prime, unknowns, {f"q{place}": {
+                name: rng.randint(-10 ** 15, 10 ** 15) for name in unknowns} for place in range(10)})
+            with within(SECONDS):
+                for file in subsets(field.questions()):
+                    self.assertEqual(field.plan(file, "q9") is None, field.apart(file, "q9") is not None)
+                engine.least_files(field, "q9")
+                self.assertEqual(shares.world_count(field, {}), prime ** 6)
+                self.assertEqual(sum(shares.spread(field, {"q1": 1}, "q9")), prime ** 5)
+        with within(SECONDS):
+            out = shares.handed_out(997, [f"holder{place}" for place in range(9)], 5)
+            self.assertEqual(len(engine.least_files(out, "secret")), 126)
+
+
+if __name__ == "__main__":
+    unittest.main()

@@ -1,0 +1,1 @@
+"""Twoworlds: what is told by what is known."""
