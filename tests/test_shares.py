@@ -68,6 +68,7 @@ class TestMaking(unittest.TestCase):
         self.assertFalse(made() == made(7))
         self.assertFalse(made() == made(5, ("y", "x")))
         self.assertFalse(made() == made(5, ("x", "y", "z")))
+        self.assertFalse(Shares(5, ["x"], {"a": {"x": 1}}) == Shares(5, ["y"], {"a": {"y": 1}}))
         self.assertFalse(made() == made(b={"x": 4}))
         self.assertFalse(made() == made(c={"x": 4}))
         self.assertFalse(made() == Shares(5, ["x", "y"], {"b": {"x": 3}, "a": {"x": 1, "y": 2}}))
@@ -109,7 +110,7 @@ class TestTold(unittest.TestCase):
         self.assertEqual(FIVE.answers(FIVE.home()).keys(), {"a": 1, "b": 1, "c": 1, "no": 1}.keys())
         self.assertEqual(list(FIVE.answers(world={"y": 4, "x": 3}).items()), [("a", 0), ("b", 3), ("c", 1), ("no", 0)])
         for thing in [*any_objects(), {"x": 5, "y": 0}, {"x": -1, "y": 0}, {"x": True, "y": 0}, {"x": 0},
-                      {"x": 0, "y": 0, "z": 0}]:
+                      {"x": 0, "y": 0, "z": 0}, {"x": 0, "z": 0}]:
             self.assertIs(caught(BadWorld, FIVE.answers, thing).thing, thing)
 
     def test_drawn(self):
@@ -127,6 +128,10 @@ class TestTold(unittest.TestCase):
             else:
                 self.look_at_plan(rng, shares, known, asked, plan)
             self.look_at_counts(rng, shares, known, asked)
+            one, other = rng.choice(all_worlds(shares)), rng.choice(all_worlds(shares))
+            right = all(shares.answers(one)[name] == shares.answers(other)[name] for name in known)
+            right = right and shares.answers(one)[asked] != shares.answers(other)[asked]
+            self.assertIs(shares.are_apart(known, asked, (one, other)), right)
 
     def look_at_pair(self, shares, known, asked, pair):
         self.assertIs(type(pair), tuple)
@@ -136,7 +141,7 @@ class TestTold(unittest.TestCase):
         self.assertIs(shares.are_apart(known, asked, list(pair)), True)
         name = shares.unknowns()[0]
         for bent in (pair[:1], (pair[0], pair[0]), (pair[0], {**pair[1], name: pair[1][name] + shares.prime}), 3,
-                     (pair[0], {**pair[1], name: True}), (*pair, pair[0])):
+                     (pair[0], {**pair[1], name: True}), (*pair, pair[0]), ({**pair[0], "zz": 0}, pair[1]), ([], pair[1])):
             self.assertIs(shares.are_apart(known, asked, bent), False)
 
     def look_at_plan(self, rng, shares, known, asked, plan):

@@ -60,6 +60,7 @@ class TestMaking(unittest.TestCase):
         self.assertTrue(made() == made(a=({"y": 2, "x": 1}, 0)))
         self.assertFalse(made() == made(("y", "x")))
         self.assertFalse(made() == made(("x", "y", "z")))
+        self.assertFalse(Sums(["x"], {"a": ({"x": 1}, 0)}) == Sums(["y"], {"a": ({"y": 1}, 0)}))
         self.assertFalse(made() == made(b=({"x": 1}, 4)))
         self.assertFalse(made() == made(b=({"x": 4}, 3)))
         self.assertFalse(made() == made(c=({"x": 4}, 3)))
@@ -140,6 +141,10 @@ class TestTold(unittest.TestCase):
             else:
                 self.look_at_plan(rng, sums, known, asked, plan)
             self.assertFalse(plan is None and sums.is_plan(known, asked, {}))
+            one, other = drawn_world(rng, sums, 2), drawn_world(rng, sums, 2)
+            right = all(sums.answers(one)[name] == sums.answers(other)[name] for name in known)
+            right = right and sums.answers(one)[asked] != sums.answers(other)[asked]
+            self.assertIs(sums.are_apart(known, asked, (one, other)), right)
 
     def look_at_pair(self, sums, known, asked, pair):
         self.assertIs(type(pair), tuple)
@@ -149,7 +154,8 @@ class TestTold(unittest.TestCase):
         self.assertIs(sums.are_apart(known, asked, pair), True)
         self.assertIs(sums.are_apart(known, asked, list(pair)[::-1]), True)
         for bent in (pair[:1], (*pair, pair[0]), (pair[0], pair[0]), (pair[0], None), (pair[0], {**pair[1], "zz": 1}),
-                     (pair[0], {**pair[1], sums.unknowns()[0]: True}), 3, {}):
+                     (pair[0], {**pair[1], sums.unknowns()[0]: True}), 3, {}, ({**pair[0], "zz": 1}, pair[1]),
+                     ([], pair[1]), ({**pair[0], sums.unknowns()[0]: False}, pair[1])):
             self.assertIs(sums.are_apart(known, asked, bent), False)
 
     def look_at_plan(self, rng, sums, known, asked, plan):

@@ -92,6 +92,9 @@ class TestTrees(unittest.TestCase):
                      ("a", {0: ("b", leaf), True: ("b", {0: 1, 1: 0})})):
             self.assertIs(is_tree(BITS, "s", bent), False, bent)
             self.assertIs(caught(BadTree, depth_of, BITS, "s", bent).thing, bent)
+        for bent in (("c", [0, 1]), ("c", {0: 0, 2: 1}), ("c", {0: 0}), ("c", {0: 0, "1": 1}), ("c", ({0: 0}, {1: 1})),
+                     ("c", {0: 1, 1: 0}), ("c", None)):
+            self.assertIs(is_tree(BITS, "a", bent), False, bent)
         tree = ("a", {0: ("b", leaf), 1: ("b", {0: 1, 1: 0})})
         self.assertFalse(is_tree(BITS, "s", tree, ["a", "c"]))
         self.assertFalse(is_tree(BITS, "s", tree, []))
@@ -227,7 +230,8 @@ class TestHolds(unittest.TestCase):
             return
         name = rng.choice(names)
         answer, below = told[name]
-        bents = [{key: told[key] for key in names if key != name}, {**told, "zz": (0, ())},
+        bents = [{key: told[key] for key in names if key != name}, {key if key != name else "zz": told[key]
+                                                                    for key in names}, {**told, "zz": (0, ())},
                  {**told, name: (99, below)}, {**told, name: (answer,)}, {**told, name: below},
                  {**told, name: (bool(answer), below)}, {**told, name: (answer, 3)}, {**told, name: (answer, below, 1)},
                  [told], ()]

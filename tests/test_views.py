@@ -132,7 +132,7 @@ class TestFound(unittest.TestCase):
         self.assertEqual(view.found(["a", "b"], "n", {}, {"a": 1, "b": 1}), 0)
         self.assertEqual(view.found(["a", "b"], "n", {}, {"a": [1], "b": (1,)}), 0)
         for bad in ({"a": 1, "b": 2}, {"a": 1, "b": True}, {"a": [1], "b": [True]}, {"a": [1], "b": [1, 1]},
-                    {"a": (), "b": 0}):
+                    {"a": (), "b": 0}, {"a": 0, "b": ()}, {"a": None, "b": []}, {"a": "x", "b": ["x"]}):
             self.assertIs(caught(BadAnswers, view.found, ["a", "b"], "n", {}, bad).thing, bad)
 
     def test_bad_plans(self):

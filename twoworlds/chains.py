@@ -47,15 +47,13 @@ def lowest(top, bottom):
 
 
 def bezout(one, other):
-    """A triple of the greatest common divisor and two factors that make it of both; other is not 0."""
+    """A triple of the greatest common divisor and two factors that make it of both; other is above 0."""
     last, rest = one, other
     factor, following = 1, 0
     while rest:
         times = last // rest
         last, rest = rest, last - times * rest
         factor, following = following, factor - times * following
-    if last < 0:
-        last, factor = -last, -factor
     return (last, factor, (last - factor * one) // other)
 
 
@@ -76,7 +74,7 @@ def narrowed(rungs, side):
     # From below, so that each rung is made of itself and of those to the right of it alone.
     for rung in rungs[::-1]:
         value = dot(row, rung)
-        if worth == 0 and value == 0:
+        if value == 0:
             left = [rung, *left]
         elif worth == 0:
             sign = 1 if value > 0 else -1

@@ -53,6 +53,11 @@ def alike(one, other):
     return one == other
 
 
+def is_parted(one, other, known, asked):
+    """Whether two dicts of answers agree in all of known and part in asked."""
+    return all([one[name] == other[name] for name in known]) and one[asked] != other[asked]
+
+
 def first_bad(names, things):
     """The index of the first thing that is none of the names or stood before, 0 for no list, or None."""
     if not is_list(things):

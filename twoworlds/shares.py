@@ -2,7 +2,7 @@
 
 from twoworlds.chains import chain_of, dict_of, dot, parting_rung, settled, vector_of, weights_of
 from twoworlds.checks import check_asked, check_both, check_lacking, first_no_name
-from twoworlds.checks import is_count, is_integer, is_list, is_name, is_one_of, is_pair
+from twoworlds.checks import is_count, is_integer, is_list, is_name, is_one_of, is_pair, is_parted
 from twoworlds.errors import BadAnswers, BadHolder, BadNumber, BadPlan, BadPrime, BadSum, BadUnknown, BadWorld
 from twoworlds.sums import is_row
 
@@ -100,8 +100,7 @@ class Shares:
         check_both(self._vectors, known, asked)
         if not is_pair(thing) or not self._is_world(thing[0]) or not self._is_world(thing[1]):
             return False
-        one, other = self.answers(thing[0]), self.answers(thing[1])
-        return all([one[name] == other[name] for name in known]) and one[asked] != other[asked]
+        return is_parted(self.answers(thing[0]), self.answers(thing[1]), known, asked)
 
     def unknowns(self):
         """The unknowns, in order."""

@@ -5,7 +5,7 @@ from math import gcd
 from twoworlds.chains import chain_of, dict_of, dot, is_multiple, narrowed, parting_rung
 from twoworlds.chains import remainder, step_of, vector_of, weights_of
 from twoworlds.checks import check_asked, check_both, check_lacking, first_no_name
-from twoworlds.checks import is_fraction, is_integer, is_name, is_one_of, is_pair
+from twoworlds.checks import is_fraction, is_integer, is_name, is_one_of, is_pair, is_parted
 from twoworlds.errors import BadAnswers, BadNumber, BadPlan, BadSum, BadUnknown, BadWorld
 
 
@@ -97,8 +97,7 @@ class Sums:
         check_both(self._sides, known, asked)
         if not is_pair(thing) or not self._is_world(thing[0]) or not self._is_world(thing[1]):
             return False
-        one, other = self.answers(thing[0]), self.answers(thing[1])
-        return all([one[name] == other[name] for name in known]) and one[asked] != other[asked]
+        return is_parted(self.answers(thing[0]), self.answers(thing[1]), known, asked)
 
     def unknowns(self):
         """The unknowns, in order."""

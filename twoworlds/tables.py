@@ -1,7 +1,7 @@
 """Tables: fields that are told by all their worlds."""
 
 from twoworlds.checks import check_asked, check_both, check_known, check_lacking
-from twoworlds.checks import is_integer, is_list, is_name, is_one_of, is_pair
+from twoworlds.checks import is_integer, is_list, is_name, is_one_of, is_pair, is_parted
 from twoworlds.errors import BadAnswers, BadKnown, BadPlan, BadRow, BadWorld, UnlikeQuestions
 
 
@@ -90,8 +90,7 @@ class Table:
         check_both(self._questions, known, asked)
         if not is_pair(thing) or not self._is_world(thing[0]) or not self._is_world(thing[1]):
             return False
-        one, other = thing
-        return all([one[name] == other[name] for name in known]) and one[asked] != other[asked]
+        return is_parted(thing[0], thing[1], known, asked)
 
     def rows(self):
         """The rows, as dicts in the order of the questions."""
