@@ -2,9 +2,10 @@
 
 import signal
 from contextlib import contextmanager
-from itertools import combinations
+from itertools import combinations, product
 
 from twoworlds.files import File
+from twoworlds.nets import Net
 from twoworlds.shares import Shares
 from twoworlds.sums import Sums
 from twoworlds.tables import Table
@@ -21,6 +22,7 @@ def any_objects():
         {(): 0}, {(1,): 1}, {("a",): 1}, {(True,): 1}, {(1, 2): True}, {"": 1}, {"a": {}}, {"a": {"a": 1}},
         ("a", {}), ["a", {0: 0}], ("a", {0: {}}), [("a", 1)], [[[[]]]], table, [table], {"a": table}, (table, table),
         View(table, {"v": "a"}), File(table), Sums(["x"], {"a": ({"x": 1}, 0)}), Shares(2, ["x"], {"a": {"x": 1}}),
+        Net({"a": ("b", "b")}),
     ]
 
 
@@ -74,6 +76,42 @@ def drawn_world(rng, sums, most=30):
     return {name: rng.randint(-most, most) for name in sums.unknowns()}
 
 
+def drawn_net(rng, most_nodes=4, most_arcs=6):
+    """A small net, loops, dead arcs and several arcs between the same nodes among them."""
+    nodes = ["p", "a", "q", "r", "s"][:rng.randint(1, most_nodes)]
+    names = ["b", "a", "d", "c", "e", "f", "g", "h"][:rng.randint(1, most_arcs)]
+    return Net({name: (rng.choice(nodes), rng.choice(nodes)) for name in names})
+
+
+def drawn_flow(rng, net, most=4):
+    """A world of a net: rings of its arcs, each gone some times."""
+    arcs, world = net.arcs(), net.home()
+    for _ in range(rng.randint(0, 5)):
+        node, way = rng.choice(net.nodes()), []
+        for _ in range(12):
+            onward = [name for name in arcs if arcs[name][0] == node]
+            if not onward:
+                break
+            way.append(rng.choice(onward))
+            node = arcs[way[-1]][1]
+            for back in range(len(way)):
+                if arcs[way[back]][0] == node:
+                    times = rng.randint(1, most)
+                    for name in way[back:]:
+                        world[name] += times
+                    way = way[:back]
+                    break
+    return world
+
+
+def small_flows(net, most):
+    """All worlds of a net with answers of at most so much."""
+    arcs, names = net.arcs(), net.questions()
+    return [dict(zip(names, row)) for row in product(range(most + 1), repeat=len(names))
+            if all(sum(n for name, n in zip(names, row) if arcs[name][0] == node)
+                   == sum(n for name, n in zip(names, row) if arcs[name][1] == node) for node in net.nodes())]
+
+
 def sum_of(sums, name, world):
     """The sum of a question in a world, by the plain rule."""
     row = sums.row(name)[0]
@@ -82,8 +120,8 @@ def sum_of(sums, name, world):
 
 def plainly_told(rows, known, asked):
     """Whether any two rows that agree in known agree in asked."""
-    return all(one[asked] == other[asked] for one in rows for other in rows
-               if all(one[name] == other[name] for name in known))
+    seen = {}
+    return all(seen.setdefault(tuple(row[name] for name in known), row[asked]) == row[asked] for row in rows)
 
 
 @contextmanager

@@ -5,9 +5,10 @@ import inspect
 import unittest
 
 from tests.helpers import caught
-from twoworlds import clashes, engine, hands, ladders, shares, sums, trees
+from twoworlds import clashes, engine, floors, forests, hands, heights, ladders, nets, rings, shares, sums, trees
 from twoworlds.errors import NoQuestion, WorldError
 from twoworlds.files import File
+from twoworlds.nets import Net
 from twoworlds.shares import Shares
 from twoworlds.sums import Sums
 from twoworlds.tables import Table
@@ -17,7 +18,9 @@ TABLE = Table([{"a": x, "b": y, "c": x, "s": x ^ y} for x in (0, 1) for y in (0,
 SUMS = Sums(["x", "y"], {"a": ({"x": 1, "y": 1}, 0), "b": ({"x": 1, "y": -1}, 0), "c": ({"x": 2}, 4), "s": ({"x": 1}, 0)})
 SHARES = Shares(5, ["x", "y"], {"a": {"x": 1, "y": 1}, "b": {"x": 1, "y": 4}, "c": {"x": 2}, "s": {"x": 1}})
 VIEW = View(TABLE, {"a": "a", "b": "b", "c": "c", "s": "s"})
-FIELDS = {"table": TABLE, "sums": SUMS, "shares": SHARES, "view": VIEW}
+NET = Net({"a": ("x", "y"), "b": ("x", "y"), "c": ("y", "y"), "s": ("y", "x")})
+FIELDS = {"table": TABLE, "sums": SUMS, "shares": SHARES, "view": VIEW, "net": NET}
+KINDS = (Table, View, Sums, Shares, Net)
 HANDS = {"jo": ["a"], "al": ["b", "c"], "kay": []}
 
 
@@ -55,8 +58,36 @@ def other_calls():
             (View, [TABLE, {"x": "a"}]), (Sums, [["x"], {"a": ({"x": 1}, 0)}]), (Shares, [3, ["x"], {"a": {"x": 1}}])]
 
 
+def net_calls():
+    """The same for nets."""
+    world, prices, amounts = {"s": 3, "c": 1, "a": 2, "b": 1}, {"s": 3, "c": 1, "a": 2, "b": 0}, {"s": 3, "a": -3}
+    given, hidden = heights.heights(NET, ["b", "c"], amounts), forests.hiding(NET, ["b", "a"], "s")
+    side = floors.most_at(NET, ["s"], world, "a")[2]
+    return [(Net, [NET.arcs()]), (NET.arcs, []), (NET.nodes, []), (NET.live, []),
+            (nets.table_net, [["r", "q"], ["k"]]), (heights.heights, [NET, ["b", "c"], {"s": 3, "a": -3}]),
+            (heights.heights, [NET, ["b", "c"], amounts]), (heights.are_heights, [NET, ["b", "c"], amounts, given]),
+            (heights.sum_found, [NET, ["b"], amounts, {"x": 0, "y": -3}, {"b": 1}]),
+            (heights.sum_apart, [NET, ["b"], {"c": 1}]), (heights.sum_apart, [NET, ["b", "c"], amounts]),
+            (forests.cheapest, [NET, prices]), (forests.is_cheapest, [NET, prices, ["c", "b", "a"]]),
+            (forests.hiding, [NET, ["b", "a"], "s"]), (forests.hiding, [NET, ["b"], "s"]),
+            (forests.is_hiding, [NET, ["b", "a"], "s", hidden]), (floors.least_at, [NET, ["s", "b"], world, "a"]),
+            (floors.least_at, [NET, ["b"], world, "s"]), (floors.most_at, [NET, ["b"], world, "s"]),
+            (floors.most_at, [NET, ["s"], world, "a"]), (floors.least_at, [NET, ["s"], world, "s"]),
+            (floors.bound_of, [NET, ["s"], {"s": 3}, "a", side, False]),
+            (floors.bound_of, [NET, ["b"], {"b": 3}, "s", ["y"], True])]
+
+
+def ring_calls():
+    """The same for rings."""
+    counts = {"aa": 1, "ab": 2, "ba": 2, "bb": 1}
+    return [(rings.numbers, ["ab", "aababb", 2]), (rings.is_of_ring, ["ab", 2, counts]),
+            (rings.ring_of, ["ab", 2, counts]), (rings.many_rings, ["ab", 2, counts]),
+            (rings.first_reading, ["ab", "bab"]), (rings.all_rings, ["ab", 2, counts]),
+            (rings.exchanges, ["ab", "aababb", 2])]
+
+
 def all_calls():
-    return [call for field in FIELDS.values() for call in field_calls(field)] + other_calls()
+    return [call for field in FIELDS.values() for call in field_calls(field)] + other_calls() + net_calls() + ring_calls()
 
 
 def swapped(thing, top=True):
@@ -76,7 +107,7 @@ def kinds(thing):
         return type(thing).__name__, [kinds(part) for part in thing]
     if isinstance(thing, dict):
         return "dict", [(key, kinds(part)) for key, part in thing.items()]
-    if isinstance(thing, (Table, View, Sums, Shares)):
+    if isinstance(thing, KINDS):
         return type(thing).__name__
     return type(thing).__name__, thing
 
@@ -136,7 +167,7 @@ class TestCalls(unittest.TestCase):
     def test_errors_are_of_the_package(self):
         for work, rest in all_calls():
             for place in range(len(rest)):
-                if not isinstance(rest[place], (Table, View, Sums, Shares)):
+                if not isinstance(rest[place], KINDS):
                     bent = [*rest[:place], object(), *rest[place + 1:]]
                     with self.subTest(work=work.__name__, place=place):
                         try:

@@ -33,6 +33,7 @@ CLASSES = {
     "views.View": {"__init__": "field names", "names": "", **FIELD},
     "sums.Sums": {"__init__": "unknowns questions", "unknowns": "", "row": "name", **FIELD},
     "shares.Shares": {"__init__": "prime unknowns questions", "unknowns": "", "row": "name", **FIELD},
+    "nets.Net": {"__init__": "arcs", "arcs": "", "nodes": "", "live": "", **FIELD},
     "files.File": {"__init__": "field", "learn": "name", "forget": "name", "known": "", "told": "", "tells": "name",
                    "undo": "", "again": "", "copy": "", "trial": "work"},
 }
@@ -53,6 +54,16 @@ FUNCTIONS = {
     "clashes.may_be": "sums answers asked", "ladders.ladder": "sums known",
     "shares.world_count": "shares answers", "shares.spread": "shares answers asked",
     "shares.handed_out": "prime holders least",
+    "nets.table_net": "rows columns",
+    "heights.heights": "net known amounts", "heights.are_heights": "net known amounts thing",
+    "heights.sum_found": "net known amounts given answers", "heights.sum_apart": "net known amounts",
+    "forests.cheapest": "net prices", "forests.is_cheapest": "net prices thing",
+    "forests.hiding": "net known asked", "forests.is_hiding": "net known asked thing",
+    "floors.least_at": "net known world asked", "floors.most_at": "net known world asked",
+    "floors.bound_of": "net known answers asked side is_floor",
+    "rings.numbers": "letters ring n", "rings.is_of_ring": "letters n thing", "rings.ring_of": "letters n counts",
+    "rings.many_rings": "letters n counts", "rings.first_reading": "letters ring",
+    "rings.all_rings": "letters n counts", "rings.exchanges": "letters ring n",
 }
 
 

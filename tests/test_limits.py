@@ -1,11 +1,12 @@
-"""Promises [5], [27] and [40]: each function at the sizes that the document names, under a time limit."""
+"""Promises [5], [27], [40], [54] and [62]: each function at the sizes that the document names, under a time limit."""
 
 import random
 import unittest
 
-from tests.helpers import subsets, within
-from twoworlds import clashes, engine, hands, ladders, shares, sums, trees
+from tests.helpers import drawn_flow, subsets, within
+from twoworlds import clashes, engine, floors, forests, hands, heights, ladders, rings, shares, sums, trees
 from twoworlds.files import File
+from twoworlds.nets import Net, table_net
 from twoworlds.shares import Shares
 from twoworlds.sums import Sums
 from twoworlds.tables import Table
@@ -160,6 +161,61 @@ class TestSums(unittest.TestCase):
         with within(SECONDS):
             out = shares.handed_out(997, [f"holder{place}" for place in range(9)], 5)
             self.assertEqual(len(engine.least_files(out, "secret")), 126)
+
+
+class TestNets(unittest.TestCase):
+    def test_large(self):
+        rng = random.Random(54)
+        nets = [table_net(["r", "q", "s"], ["x", "y"]), table_net(["r"], ["x", "y", "z", "w", "v"])]
+        for nodes in (1, 2, 5, 8, 16, 32):
+            nets.append(Net({f"arc{place}": (f"n{rng.randrange(nodes)}", f"n{rng.randrange(nodes)}")
+                             for place in range(16)}))
+        nets.append(Net({f"arc{place}": (f"n{place // 2}", f"n{(place // 2 + 1) % 8}") for place in range(16)}))
+        for net in nets:
+            with within(SECONDS):
+                self.look(rng, net)
+
+    def look(self, rng, net):
+        names = net.questions()
+        prices = {name: rng.randrange(10 ** 15) for name in names}
+        self.assertTrue(forests.is_cheapest(net, prices, forests.cheapest(net, prices)[1]))
+        held = {f"hand{place}": rng.sample(names, 3) for place in range(min(7, len(names)))}
+        for work in (engine.least_files, engine.secrets, engine.needed, engine.idle):
+            work(net, names[0], rng.sample(names, 9))
+        hands.least_groups(net, held, names[0])
+        for _ in range(20):
+            known, world = rng.sample(names, rng.randint(0, len(names))), drawn_flow(rng, net, 10 ** 14)
+            amounts = {name: rng.randint(-1000, 1000) for name in names}
+            given = heights.heights(net, known, amounts)
+            self.assertEqual(given is None, heights.sum_apart(net, known, amounts) is not None)
+            if given is not None:
+                self.assertEqual(heights.sum_found(net, known, amounts, given, world),
+                                 sum(amounts[name] * world[name] for name in names))
+            for asked in names:
+                told = forests.hiding(net, known, asked)
+                self.assertEqual(forests.is_hiding(net, known, asked, told), told not in (None, ([], {})))
+                self.assertEqual(net.plan(known, asked) is None, net.apart(known, asked) is not None)
+                least, most = floors.least_at(net, known, world, asked), floors.most_at(net, known, world, asked)
+                self.assertTrue(least[0] <= world[asked] and (most[0] is None or world[asked] <= most[0]))
+
+
+class TestRings(unittest.TestCase):
+    def test_large(self):
+        rng = random.Random(62)
+        for letters in ("a", "ab", "abc"):
+            for n in (1, 2, 3):
+                ring = "".join(rng.choice(letters) for _ in range(40))
+                with within(SECONDS):
+                    counts = rings.numbers(letters, ring, n)
+                    self.assertGreater(rings.many_rings(letters, n, counts), 0)
+                    self.assertEqual(rings.numbers(letters, rings.ring_of(letters, n, counts), n), counts)
+                    rings.first_reading(letters, ring)
+                    counts = rings.numbers(letters, ring[:9], n)
+                    found = rings.all_rings(letters, n, counts)
+                    self.assertIn(rings.first_reading(letters, ring[:9]), found)
+                    rings.exchanges(letters, ring[:12], n)
+                    self.assertTrue(rings.is_of_ring(letters, n, {piece: 10 ** 14 * number
+                                                                  for piece, number in counts.items()}))
 
 
 if __name__ == "__main__":

@@ -1,9 +1,11 @@
 """What every part asks of the objects that it is passed."""
 
-from twoworlds.errors import BadAnswers, BadHands, BadKnown, NoQuestion
+from twoworlds.errors import BadAnswers, BadHands, BadKnown, BadLetters, BadNumber, NoQuestion
 
+SMALL_LETTERS = "abcdefghijklmnopqrstuvwxyz"
 SIGNS = "abcdefghijklmnopqrstuvwxyz0123456789."
 LONGEST = 40
+MOST_LETTERS = 3
 
 
 def is_integer(thing):
@@ -42,6 +44,16 @@ def is_one_of(names, thing):
     """Whether any object is one of some names."""
     # What is no string may have no place among the keys of a dict.
     return isinstance(thing, str) and thing in names
+
+
+def is_word(letters, thing):
+    """Whether any object is a string of one or more of the letters."""
+    return isinstance(thing, str) and len(thing) > 0 and all([letter in letters for letter in thing])
+
+
+def has_just(thing, names):
+    """Whether any object is a dict with just some names as keys."""
+    return isinstance(thing, dict) and len(thing) == len(names) and all([name in thing for name in names])
 
 
 def alike(one, other):
@@ -105,6 +117,25 @@ def check_lacking(known, answers):
     """BadAnswers, if answers are no dict or lack a question of known."""
     if not isinstance(answers, dict) or not all([name in answers for name in known]):
         raise BadAnswers(answers)
+
+
+def check_counts(known, answers):
+    """BadAnswers, if answers are no dict that has integers from 0 on for all of known."""
+    check_lacking(known, answers)
+    if not all([is_count(answers[name]) for name in known]):
+        raise BadAnswers(answers)
+
+
+def check_letters(letters):
+    """BadLetters, if it is no string of one to three unlike small letters."""
+    if not is_word(SMALL_LETTERS, letters) or len(letters) > MOST_LETTERS or len(set(letters)) < len(letters):
+        raise BadLetters(letters)
+
+
+def check_from_one(n):
+    """BadNumber, if it is no integer from 1 on."""
+    if not is_count(n) or n == 0:
+        raise BadNumber(n)
 
 
 def check_hands(names, hands):

@@ -1,7 +1,7 @@
 """Shares: sums all of which are remainders of one prime."""
 
 from twoworlds.chains import chain_of, dict_of, dot, parting_rung, settled, vector_of, weights_of
-from twoworlds.checks import check_asked, check_both, check_lacking, first_no_name
+from twoworlds.checks import check_asked, check_both, check_lacking, first_no_name, has_just
 from twoworlds.checks import is_count, is_integer, is_list, is_name, is_one_of, is_pair, is_parted
 from twoworlds.errors import BadAnswers, BadHolder, BadNumber, BadPlan, BadPrime, BadSum, BadUnknown, BadWorld
 from twoworlds.sums import is_row
@@ -113,10 +113,9 @@ class Shares:
 
     def _is_world(self, thing):
         """Whether any object is a dict from just all unknowns to remainders."""
-        if not isinstance(thing, dict) or len(thing) != len(self._unknowns):
+        if not has_just(thing, self._unknowns):
             return False
-        return all([name in thing and is_integer(thing[name]) and 0 <= thing[name] < self.prime
-                    for name in self._unknowns])
+        return all([is_integer(thing[name]) and 0 <= thing[name] < self.prime for name in self._unknowns])
 
     def _chain(self, known):
         """The links and the rungs of some questions."""

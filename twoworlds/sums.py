@@ -4,7 +4,7 @@ from math import gcd
 
 from twoworlds.chains import chain_of, dict_of, dot, is_multiple, narrowed, parting_rung
 from twoworlds.chains import remainder, step_of, vector_of, weights_of
-from twoworlds.checks import check_asked, check_both, check_lacking, first_no_name
+from twoworlds.checks import check_asked, check_both, check_lacking, first_no_name, has_just
 from twoworlds.checks import is_fraction, is_integer, is_name, is_one_of, is_pair, is_parted
 from twoworlds.errors import BadAnswers, BadNumber, BadPlan, BadSum, BadUnknown, BadWorld
 
@@ -111,9 +111,7 @@ class Sums:
 
     def _is_world(self, thing):
         """Whether any object is a dict from just all unknowns to integers."""
-        if not isinstance(thing, dict) or len(thing) != len(self._unknowns):
-            return False
-        return all([name in thing and is_integer(thing[name]) for name in self._unknowns])
+        return has_just(thing, self._unknowns) and all([is_integer(thing[name]) for name in self._unknowns])
 
     def _chain(self, known):
         """The links and the rungs of some questions."""

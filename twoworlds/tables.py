@@ -1,6 +1,6 @@
 """Tables: fields that are told by all their worlds."""
 
-from twoworlds.checks import check_asked, check_both, check_known, check_lacking
+from twoworlds.checks import check_asked, check_both, check_known, check_lacking, has_just
 from twoworlds.checks import is_integer, is_list, is_name, is_one_of, is_pair, is_parted
 from twoworlds.errors import BadAnswers, BadKnown, BadPlan, BadRow, BadWorld, UnlikeQuestions
 
@@ -126,7 +126,7 @@ class Table:
 
     def _is_world(self, thing):
         """Whether any object is a dict that is equal to some row."""
-        if not isinstance(thing, dict) or not _has_just(thing, self._questions):
+        if not has_just(thing, self._questions):
             return False
         row = tuple([thing[name] for name in self._questions])
         return _are_integers(row) and row in self._rows
@@ -163,11 +163,6 @@ def _are_integers(thing):
     return isinstance(thing, tuple) and all([is_integer(part) for part in thing])
 
 
-def _has_just(thing, names):
-    """Whether a dict has just some names as keys."""
-    return len(thing) == len(names) and all([name in thing for name in names])
-
-
 def _first_bad_row(rows):
     """The index of the first thing that is no row beside the ones ahead, 0 for no list or an empty one, or None."""
     if not is_list(rows) or len(rows) == 0:
@@ -175,6 +170,6 @@ def _first_bad_row(rows):
     for index, row in enumerate(rows):
         if not isinstance(row, dict) or len(row) == 0 or not all([is_integer(row[name]) for name in row]):
             return index
-        if not all([is_name(name) for name in row]) or not _has_just(row, list(rows[0])):
+        if not all([is_name(name) for name in row]) or not has_just(row, list(rows[0])):
             return index
     return None
