@@ -4,8 +4,10 @@ import signal
 from contextlib import contextmanager
 from itertools import combinations, product
 
+from twoworlds.boxes import Box
 from twoworlds.files import File
 from twoworlds.nets import Net
+from twoworlds.pieces import Pieces
 from twoworlds.shares import Shares
 from twoworlds.sums import Sums
 from twoworlds.tables import Table
@@ -22,7 +24,7 @@ def any_objects():
         {(): 0}, {(1,): 1}, {("a",): 1}, {(True,): 1}, {(1, 2): True}, {"": 1}, {"a": {}}, {"a": {"a": 1}},
         ("a", {}), ["a", {0: 0}], ("a", {0: {}}), [("a", 1)], [[[[]]]], table, [table], {"a": table}, (table, table),
         View(table, {"v": "a"}), File(table), Sums(["x"], {"a": ({"x": 1}, 0)}), Shares(2, ["x"], {"a": {"x": 1}}),
-        Net({"a": ("b", "b")}),
+        Net({"a": ("b", "b")}), Pieces("a", ["a"]), Box({"a": {"a": ("a", "a")}}, {"a": []}),
     ]
 
 
@@ -110,6 +112,38 @@ def small_flows(net, most):
     return [dict(zip(names, row)) for row in product(range(most + 1), repeat=len(names))
             if all(sum(n for name, n in zip(names, row) if arcs[name][0] == node)
                    == sum(n for name, n in zip(names, row) if arcs[name][1] == node) for node in net.nodes())]
+
+
+def drawn_moves(rng, most_states=4, most_letters=2, signs=("u", "v")):
+    """The moves of a small box, letters in drawn orders; often all but one state have one sign, or none merge."""
+    states = rng.sample(["q", "p", "r", "t", "s", "w"], rng.randint(1, most_states))
+    letters = ["y", "x", "z"][:rng.randint(1, most_letters)]
+    moves = {state: {} for state in states}
+    for letter in letters:
+        ends = rng.sample(states, len(states)) if rng.random() < 0.6 else [rng.choice(states) for _ in states]
+        few = rng.random() < 0.7
+        for state, end in zip(states, ends):
+            sign = signs[0] if few and state != states[-1] else rng.choice(signs)
+            moves[state][letter] = (sign, end)
+    return {state: {letter: moves[state][letter] for letter in (letters if state == states[0] else rng.sample(
+        letters, len(letters)))} for state in states}
+
+
+def drawn_box(rng, most_states=4, most_letters=2, signs=("u", "v"), most_questions=4):
+    """A small box with rows and marked rows as its questions."""
+    moves = drawn_moves(rng, most_states, most_letters, signs)
+    letters = list(moves[list(moves)[0]])
+    questions = {}
+    for place in range(rng.randint(1, most_questions)):
+        row = [rng.choice(letters) for _ in range(rng.randint(0, 3))]
+        marks = {state: rng.randint(-1, 1) for state in rng.sample(list(moves), len(moves))}
+        questions[f"q{place}"] = rng.choice((row, tuple(row), (row, marks), [tuple(row), marks]))
+    return Box(moves, questions)
+
+
+def all_rows(letters, longest):
+    """All rows of at most so many letters, by their order."""
+    return [list(row) for many in range(longest + 1) for row in product(letters, repeat=many)]
 
 
 def sum_of(sums, name, world):

@@ -5,10 +5,13 @@ import inspect
 import unittest
 
 from tests.helpers import caught
-from twoworlds import clashes, engine, floors, forests, hands, heights, ladders, nets, rings, shares, sums, trees
+from twoworlds import clashes, engine, firsts, floors, forests, hands, heights, ladders, links, nets, resets, rings
+from twoworlds import shares, shown, sums, trees
+from twoworlds.boxes import Box
 from twoworlds.errors import NoQuestion, WorldError
 from twoworlds.files import File
 from twoworlds.nets import Net
+from twoworlds.pieces import Pieces
 from twoworlds.shares import Shares
 from twoworlds.sums import Sums
 from twoworlds.tables import Table
@@ -19,8 +22,14 @@ SUMS = Sums(["x", "y"], {"a": ({"x": 1, "y": 1}, 0), "b": ({"x": 1, "y": -1}, 0)
 SHARES = Shares(5, ["x", "y"], {"a": {"x": 1, "y": 1}, "b": {"x": 1, "y": 4}, "c": {"x": 2}, "s": {"x": 1}})
 VIEW = View(TABLE, {"a": "a", "b": "b", "c": "c", "s": "s"})
 NET = Net({"a": ("x", "y"), "b": ("x", "y"), "c": ("y", "y"), "s": ("y", "x")})
-FIELDS = {"table": TABLE, "sums": SUMS, "shares": SHARES, "view": VIEW, "net": NET}
-KINDS = (Table, View, Sums, Shares, Net)
+PIECES = Pieces("ab", ["a", "aa", "b", "ab"])
+RINGS = View(PIECES, {"a": "a", "b": "aa", "c": "b", "s": "ab"})
+MOVES = {"p": {"x": ("u", "q"), "y": ("v", "p")}, "q": {"x": ("u", "r"), "y": ("u", "p")},
+         "r": {"x": ("u", "r"), "y": ("v", "q")}}
+BOX = Box(MOVES, {"a": ["y", "y"], "b": (["x"], {"p": 1, "q": 2, "r": 3}), "c": ["x"],
+                  "s": ([], {"p": 5, "q": 6, "r": 7})})
+FIELDS = {"table": TABLE, "sums": SUMS, "shares": SHARES, "view": VIEW, "net": NET, "rings": RINGS, "box": BOX}
+KINDS = (Table, View, Sums, Shares, Net, Pieces, Box)
 HANDS = {"jo": ["a"], "al": ["b", "c"], "kay": []}
 
 
@@ -83,11 +92,31 @@ def ring_calls():
     return [(rings.numbers, ["ab", "aababb", 2]), (rings.is_of_ring, ["ab", 2, counts]),
             (rings.ring_of, ["ab", 2, counts]), (rings.many_rings, ["ab", 2, counts]),
             (rings.first_reading, ["ab", "bab"]), (rings.all_rings, ["ab", 2, counts]),
-            (rings.exchanges, ["ab", "aababb", 2])]
+            (rings.exchanges, ["ab", "aababb", 2]), (Pieces, ["ab", ["a", "bb"]]), (PIECES.letters, []),
+            (PIECES.questions, []), (PIECES.plan, [["aa", "a"], "ab"]), (PIECES.apart, [["a", "b"], "ab"]),
+            (PIECES.found, [["a", "b"], "a", {"a": (1, 1)}, {"a": 3, "b": 1}]),
+            (shown.shown_numbers, ["ab", 2, counts, "abab"]), (shown.settled_by, ["ab", 2, counts])]
+
+
+def box_calls():
+    """The same for boxes."""
+    marks = {"r": 3, "q": 2, "p": 1}
+    one = Box({"p": {"x": ("u", "q")}, "q": {"x": ("u", "p")}}, {"a": []})
+    kept, hard = resets.keep(one), firsts.hard_list(one, {"p": 1, "q": 2})
+    return [(Box, [MOVES, {"a": ["x", "y"], "b": (["x"], marks)}]), (BOX.states, []), (BOX.letters, []),
+            (BOX.move, ["q", "x"]), (BOX.out, ["q", ["x", "y"]]), (BOX.end, ["q", ["x", "y"]]),
+            (resets.parting_row, [BOX, "p", "q"]), (resets.parting_row, [one, "p", "q"]), (resets.alike_states, [one]),
+            (resets.least_moves, [BOX]), (resets.reset_row, [BOX]), (resets.keep, [one]), (resets.is_keep, [one, kept]),
+            (resets.now_row, [BOX]), (resets.blind_list, [one]), (resets.is_blind_list, [one, kept]),
+            (firsts.first_tree, [BOX, marks]), (firsts.is_first_tree, [BOX, marks, firsts.first_tree(BOX, marks)]),
+            (firsts.first_row, [BOX, marks]), (firsts.hard_list, [one, {"p": 1, "q": 2}]),
+            (firsts.is_hard_list, [one, {"p": 1, "q": 2}, hard]), (links.beside_moves, [BOX, BOX]),
+            (links.linked_moves, [BOX, Box({"s": {"u": ("k", "s"), "v": ("l", "s")}}, {"a": []})])]
 
 
 def all_calls():
-    return [call for field in FIELDS.values() for call in field_calls(field)] + other_calls() + net_calls() + ring_calls()
+    return [call for field in FIELDS.values() for call in field_calls(field)] + [
+        *other_calls(), *net_calls(), *ring_calls(), *box_calls()]
 
 
 def swapped(thing, top=True):
@@ -159,7 +188,10 @@ class TestCalls(unittest.TestCase):
 
     def test_dicts_in_the_order_of_the_questions(self):
         for field in FIELDS.values():
-            self.assertEqual(list(field.answers(dict(list(field.home().items())[::-1]))), ["a", "b", "c", "s"])
+            world = field.home()
+            if isinstance(world, dict):
+                world = dict(list(world.items())[::-1])
+            self.assertEqual(list(field.answers(world)), ["a", "b", "c", "s"])
         for field in (SUMS, SHARES):
             self.assertEqual(list(field.plan(["b", "a"], "s")), ["b", "a"])
             self.assertEqual(list(field.plan(["a", "b"], "s")), ["a", "b"])

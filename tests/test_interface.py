@@ -34,6 +34,9 @@ CLASSES = {
     "sums.Sums": {"__init__": "unknowns questions", "unknowns": "", "row": "name", **FIELD},
     "shares.Shares": {"__init__": "prime unknowns questions", "unknowns": "", "row": "name", **FIELD},
     "nets.Net": {"__init__": "arcs", "arcs": "", "nodes": "", "live": "", **FIELD},
+    "pieces.Pieces": {"__init__": "letters pieces", "letters": "", **FIELD},
+    "boxes.Box": {"__init__": "moves questions", "states": "", "letters": "", "move": "state letter",
+                  "out": "state row", "end": "state row", **FIELD},
     "files.File": {"__init__": "field", "learn": "name", "forget": "name", "known": "", "told": "", "tells": "name",
                    "undo": "", "again": "", "copy": "", "trial": "work"},
 }
@@ -64,6 +67,13 @@ FUNCTIONS = {
     "rings.numbers": "letters ring n", "rings.is_of_ring": "letters n thing", "rings.ring_of": "letters n counts",
     "rings.many_rings": "letters n counts", "rings.first_reading": "letters ring",
     "rings.all_rings": "letters n counts", "rings.exchanges": "letters ring n",
+    "shown.shown_numbers": "letters n counts piece", "shown.settled_by": "letters n counts",
+    "resets.parting_row": "box one other", "resets.alike_states": "box", "resets.least_moves": "box",
+    "resets.reset_row": "box", "resets.keep": "box", "resets.is_keep": "box thing", "resets.now_row": "box",
+    "resets.blind_list": "box", "resets.is_blind_list": "box thing",
+    "firsts.first_tree": "box marks", "firsts.is_first_tree": "box marks thing", "firsts.first_row": "box marks",
+    "firsts.hard_list": "box marks", "firsts.is_hard_list": "box marks thing",
+    "links.linked_moves": "one other", "links.beside_moves": "one other",
 }
 
 

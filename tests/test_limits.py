@@ -1,12 +1,16 @@
-"""Promises [5], [27], [40], [54] and [62]: each function at the sizes that the document names, under a time limit."""
+"""Promises [5], [27], [40], [54], [62] and [72]: each function at the sizes that the document names, under a time limit."""
 
 import random
 import unittest
+from itertools import product
 
 from tests.helpers import drawn_flow, subsets, within
-from twoworlds import clashes, engine, floors, forests, hands, heights, ladders, rings, shares, sums, trees
+from twoworlds import clashes, engine, firsts, floors, forests, hands, heights, ladders, links, resets, rings, shares
+from twoworlds import shown, sums, trees
+from twoworlds.boxes import Box
 from twoworlds.files import File
 from twoworlds.nets import Net, table_net
+from twoworlds.pieces import Pieces
 from twoworlds.shares import Shares
 from twoworlds.sums import Sums
 from twoworlds.tables import Table
@@ -214,8 +218,110 @@ class TestRings(unittest.TestCase):
                     found = rings.all_rings(letters, n, counts)
                     self.assertIn(rings.first_reading(letters, ring[:9]), found)
                     rings.exchanges(letters, ring[:12], n)
+                    shown.shown_numbers(letters, n, counts, (letters * 6)[:6])
+                    shown.settled_by(letters, n, counts)
                     self.assertTrue(rings.is_of_ring(letters, n, {piece: 10 ** 14 * number
                                                                   for piece, number in counts.items()}))
+
+    def test_pieces(self):
+        rng = random.Random(621)
+        for letters in ("a", "ab", "abc", "abc"):
+            words = [word for many in (1, 2, 3) for word in map("".join, product(letters, repeat=many))]
+            field = Pieces(letters, rng.sample(words, min(16, len(words))))
+            names = field.questions()
+            of, asked = rng.sample(names, min(9, len(names))), names[0]
+            with within(SECONDS):
+                for work in (engine.least_files, engine.secrets, engine.needed, engine.idle):
+                    work(field, asked, of)
+                engine.told_by(field, names[1:])
+                engine.thinned(field, names, asked)
+                held = {f"hand{place}": rng.sample(names, 3) for place in range(7)}
+                hands.least_groups(field, held, asked)
+                for _ in range(60):
+                    known, asked = rng.sample(names, rng.randint(0, len(names))), rng.choice(names)
+                    plan, pair = field.plan(known, asked), field.apart(known, asked)
+                    self.assertEqual(plan is None, pair is not None)
+                    if plan is None:
+                        self.assertTrue(field.are_apart(known, asked, pair))
+                    else:
+                        self.assertTrue(field.is_plan(known, asked, plan))
+                    thing = {name: (rng.randrange(1, 10 ** 15), rng.randrange(1, 10 ** 15)) for name in known}
+                    self.assertFalse(field.is_plan(known, asked, thing))
+
+
+class TestBoxes(unittest.TestCase):
+    def drawn(self, rng, many, letters, few, mixing):
+        states = [f"state{place}" for place in range(many)]
+        moves = {state: {} for state in states}
+        for letter in letters:
+            ends = rng.sample(states, many) if rng.random() < mixing else [rng.choice(states) for _ in states]
+            for state, end in zip(states, ends):
+                moves[state][letter] = ("u" if few and state != states[0] else rng.choice("uv"), end)
+        rows = [[rng.choice(letters) for _ in range(12)] for _ in range(15)]
+        return Box(moves, {f"q{place}": row if place % 2 else (row, {state: rng.randrange(3) for state in states})
+                           for place, row in enumerate(rows)})
+
+    def test_fields(self):
+        rng = random.Random(72)
+        for _ in range(6):
+            box = self.drawn(rng, 8, "xyzw", rng.random() < 0.5, 0.5)
+            names = box.questions()
+            with within(SECONDS):
+                for work in (engine.least_files, engine.secrets, engine.needed, engine.idle):
+                    work(box, names[0], rng.sample(names, 9))
+                engine.told_by(box, names)
+                for asked in names:
+                    plan = box.plan(names[:3], asked)
+                    self.assertEqual(plan is None, box.apart(names[:3], asked) is not None)
+
+    def test_rows(self):
+        rng = random.Random(721)
+        for place in range(80):
+            box = self.drawn(rng, 8, "xyzw"[:rng.randint(2, 4)], place % 2, rng.choice((0.5, 0.8, 1)))
+            with within(SECONDS):
+                resets.least_moves(box)
+                for row, pairs, tells in ((resets.reset_row, resets.keep, resets.is_keep),
+                                          (resets.now_row, resets.blind_list, resets.is_blind_list)):
+                    found = pairs(box)
+                    self.assertEqual(found is None, row(box) is not None)
+                    if found is not None:
+                        self.assertTrue(tells(box, (found * 80)[:80]))
+
+    def test_cerny(self):
+        # The longest of all first rows that bring eight states to one.
+        states = [f"s{place}" for place in range(8)]
+        box = Box({state: {"a": ("u", states[(place + 1) % 8]), "b": ("u", states[0 if place == 7 else place])}
+                   for place, state in enumerate(states)}, {"q": []})
+        with within(SECONDS):
+            self.assertEqual(len(resets.reset_row(box)), 49)
+            self.assertEqual(len(resets.now_row(box)), 49)
+
+    def test_firsts(self):
+        rng = random.Random(722)
+        for place in range(60):
+            box = self.drawn(rng, 5, "xyz", place % 3, rng.choice((0.5, 0.8, 1)))
+            marks = {state: at if place % 2 else rng.randrange(3) for at, state in enumerate(box.states())}
+            with within(SECONDS):
+                tree, hard = firsts.first_tree(box, marks), firsts.hard_list(box, marks)
+                self.assertEqual(tree is None, hard is not None)
+                self.assertEqual(firsts.is_first_tree(box, marks, tree), tree is not None)
+                self.assertEqual(firsts.is_hard_list(box, marks, hard), hard is not None)
+                firsts.first_row(box, marks)
+                states = box.states()
+                thing = [[(one, one) for one in states]] + [[(rng.choice(states), rng.choice(states)) for one in states]
+                                                             for _ in range(199)]
+                firsts.is_hard_list(box, marks, thing)
+
+    def test_links(self):
+        rng = random.Random(723)
+        for _ in range(20):
+            one, other = self.drawn(rng, 4, "uvxy", False, 0.7), self.drawn(rng, 4, "uvxy", False, 0.7)
+            with within(SECONDS):
+                for work in (links.linked_moves, links.beside_moves):
+                    box = Box(work(one, other), {"q": []})
+                    self.assertEqual(len(box.states()), 16)
+                    self.assertEqual(resets.reset_row(box) is None, resets.keep(box) is not None)
+                    resets.alike_states(box)
 
 
 if __name__ == "__main__":

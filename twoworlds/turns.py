@@ -18,6 +18,11 @@ def pieces_of(ring, n):
     return [around[place:place + n] for place in range(len(ring))]
 
 
+def number_of(ring, piece):
+    """At how many places of a ring a piece stands."""
+    return pieces_of(ring, len(piece)).count(piece)
+
+
 def counted(ring, n):
     """The dict from all pieces of n letters that stand in a ring, in alphabetical order, to their numbers."""
     counts = {}
