@@ -112,6 +112,7 @@ class TestWorlds(unittest.TestCase):
                          [("yy", ("u", "v")), ("x", ("u",)), ("no", ()), ("end", 2), ("same", 5)])
         self.assertEqual(BOX.answers("p"), {"yy": ("v", "v"), "x": ("u",), "no": (), "end": 1, "same": 1})
         self.assertIn(BOX.home(), BOX.states())
+        self.assertEqual(Box({"s": {"t": ("s", "s")}}, {"s": ()}).home(), "s")
         for thing in any_objects():
             self.assertIs(caught(BadWorld, BOX.answers, thing).thing, thing)
 

@@ -75,6 +75,7 @@ class TestWorlds(unittest.TestCase):
         self.assertEqual(field.answers("a"), {"b": 0, "aa": 1, "ab": 0, "ba": 0, "a": 1, "aaa": 1, "bab": 0})
         self.assertEqual(field.answers("ab")["bab"], 1)
         self.assertEqual(list(field.answers(field.home())), field.questions())
+        self.assertEqual(len(Pieces("z", ["z"]).answers(Pieces("z", ["z"]).home())), 1)
         for ring in strings("ab", 5):
             answers = field.answers(ring)
             for piece in answers:
@@ -171,6 +172,13 @@ class TestTold(unittest.TestCase):
                     right = all(seen.setdefault(tuple(world[name] for name in known), world[asked]) == world[asked]
                                 for world in rings)
                     self.assertIs(field.is_told(known, asked), right, (known, asked))
+
+    def test_pairs_with_much_less(self):
+        # The second ring has two less of a piece where it has one more of others.
+        for letters, known, asked in (("cb", ["c"], "bcc"), ("ca", ["ccc", "acc", "a"], "ac"),
+                                      ("bz", ["bbb", "z", "zbb"], "b"), ("czb", ["z", "cbz"], "zz")):
+            field = Pieces(letters, [asked, *known, 3 * letters[-1]])
+            self.look_at_pair(field, known, asked, field.apart(known, asked))
 
     def test_any_objects(self):
         field = Pieces("a", ["a", "aa"])

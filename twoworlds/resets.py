@@ -57,15 +57,10 @@ def now_row(box):
     """The first row behind which what came out tells the state, or None."""
     if blind_list(box) is not None:
         return None
-    moves, splits = moves_of(box), {}
+    moves = moves_of(box)
 
     def follow(groups, letter):
-        after = []
-        for group in groups:
-            if (group, letter) not in splits:
-                splits[(group, letter)] = _split(moves, group, letter)
-            after.extend(splits[(group, letter)])
-        return tuple(sorted({group for group in after}))
+        return tuple(sorted({part for group in groups for part in _split(moves, group, letter)}))
     states = tuple(sorted(moves))
     return first_row_to((states,) if len(states) > 1 else (), box.letters(), follow, lambda groups: len(groups) == 0)
 
