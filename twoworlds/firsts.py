@@ -48,8 +48,8 @@ def first_row(box, marks):
 
     def follow(situations, letter):
         after = []
-        for one in situations:
-            after.extend(list(_after(moves, one, letter).values()))
+        for before in situations:
+            after.extend(list(_after(moves, before, letter).values()))
         if None in after:
             return None
         return tuple(sorted({one for one in after if not _has_one_mark(one)}))

@@ -7,10 +7,7 @@ from twoworlds.errors import BadLink, UnlikeLetters
 def linked_moves(one, other):
     """The moves of two boxes, the signs of the one being put into the other."""
     first, second = moves_of(one), moves_of(other)
-    for state in first:
-        for letter in first[state]:
-            if first[state][letter][0] not in other.letters():
-                raise BadLink(first[state][letter][0])
+    _check_signs(first, other.letters())
     return {f"{state}.{later}": {letter: _linked(first[state][letter], second[later]) for letter in first[state]}
             for state in first for later in second}
 
@@ -22,6 +19,15 @@ def beside_moves(one, other):
     first, second = moves_of(one), moves_of(other)
     return {f"{state}.{later}": {letter: _both(first[state][letter], second[later][letter]) for letter in first[state]}
             for state in first for later in second}
+
+
+def _check_signs(moves, letters):
+    """BadLink, if a sign that comes out is none of the letters."""
+    for state in moves:
+        for letter in moves[state]:
+            sign = moves[state][letter][0]
+            if sign not in letters:
+                raise BadLink(sign)
 
 
 def _linked(move, moves):
