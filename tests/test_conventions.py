@@ -150,6 +150,31 @@ def lists_in(thing):
     return []
 
 
+class TestAbove(unittest.TestCase):
+    def test_views_files_and_hands(self):
+        names = {"s2": "s", "a2": "a", "b2": "b", "c2": "c", "b3": "b"}
+        for field in FIELDS.values():
+            view, file = View(field, names), File(field)
+            plan = view.plan(["b2", "a2"], "s2")
+            self.assertTrue(field.is_plan(["b", "a"], "s", plan))
+            answers = view.answers(field.home())
+            self.assertEqual(answers["s2"], field.answers(field.home())["s"])
+            self.assertEqual(view.found(["b2", "a2"], "s2", plan, answers), answers["s2"])
+            self.assertTrue(view.are_apart(["c2"], "b2", field.apart(["c"], "b")))
+            self.assertIs(view.is_told(["b3"], "b2"), True)
+            self.assertEqual(engine.least_files(view, "s2", ["a2", "b2"]), [
+                [f"{name}2" for name in found] for found in engine.least_files(field, "s", ["a", "b"])])
+            file.learn("a")
+            file.learn("b")
+            self.assertEqual(file.told(), engine.told_by(field, ["a", "b"]))
+            self.assertIs(file.tells("s"), True)
+            file.forget("a")
+            self.assertIs(file.tells("s"), field.is_told(["b"], "s"))
+            self.assertIs(hands.knows(field, HANDS, ["jo", "al"], "s"), True)
+            self.assertEqual(hands.least_groups(field, {"x": ["b", "a"], "y": []}, "s")[0],
+                             [] if field.is_told([], "s") else ["x"])
+
+
 class TestCalls(unittest.TestCase):
     def test_the_same_by_names_and_with_lists_for_tuples(self):
         for work, rest in all_calls():
