@@ -2,11 +2,12 @@
 
 import signal
 from contextlib import contextmanager
-from itertools import combinations, product
+from itertools import combinations, permutations, product
 
 from twoworlds.boxes import Box
 from twoworlds.files import File
 from twoworlds.nets import Net
+from twoworlds.orders import Seats
 from twoworlds.pieces import Pieces
 from twoworlds.shares import Shares
 from twoworlds.sums import Sums
@@ -24,7 +25,7 @@ def any_objects():
         {(): 0}, {(1,): 1}, {("a",): 1}, {(True,): 1}, {(1, 2): True}, {"": 1}, {"a": {}}, {"a": {"a": 1}},
         ("a", {}), ["a", {0: 0}], ("a", {0: {}}), [("a", 1)], [[[[]]]], table, [table], {"a": table}, (table, table),
         View(table, {"v": "a"}), File(table), Sums(["x"], {"a": ({"x": 1}, 0)}), Shares(2, ["x"], {"a": {"x": 1}}),
-        Net({"a": ("b", "b")}), Pieces("a", ["a"]), Box({"a": {"a": ("a", "a")}}, {"a": []}),
+        Net({"a": ("b", "b")}), Pieces("a", ["a"]), Box({"a": {"a": ("a", "a")}}, {"a": []}), Seats({"a": (0, 0)}),
     ]
 
 
@@ -144,6 +145,34 @@ def drawn_box(rng, most_states=4, most_letters=2, signs=("u", "v"), most_questio
 def all_rows(letters, longest):
     """All rows of at most so many letters, by their order."""
     return [list(row) for many in range(longest + 1) for row in product(letters, repeat=many)]
+
+
+def drawn_windows(rng, most_people=5):
+    """Windows of some people, for which there may be no row."""
+    people = rng.sample(["jo", "al", "kay", "bo", "di", "ed", "flo"], rng.randint(1, most_people))
+    n = len(people)
+    return {name: tuple(sorted((rng.randrange(n), rng.randrange(n)))) for name in people}
+
+
+def drawn_seats(rng, most_people=5):
+    """A field of rows of people: windows around the places of a drawn row, some people and places asked about."""
+    people = rng.sample(["jo", "al", "kay", "bo", "di", "ed", "flo"], rng.randint(1, most_people))
+    n, far = len(people), rng.randint(0, 3)
+    windows = {}
+    for place in rng.sample(range(n), n):
+        windows[people[place]] = (max(0, place - rng.randint(0, far)), min(n - 1, place + rng.randint(0, far)))
+    asked = rng.choice((None, rng.sample(people, rng.randint(1, n))))
+    return Seats(windows, asked, rng.choice((None, rng.sample(range(n), rng.randint(0, n)))))
+
+
+def all_seated(windows):
+    """All rows, by the numbers of the places of people."""
+    people = list(windows)
+    rows = []
+    for places in permutations(range(len(people))):
+        if all(windows[name][0] <= place <= windows[name][1] for name, place in zip(people, places)):
+            rows.append([people[places.index(place)] for place in range(len(people))])
+    return rows
 
 
 def sum_of(sums, name, world):

@@ -96,7 +96,9 @@ class TestFiles(unittest.TestCase):
 
     def look_at_import(self, stem, names):
         text = (FOLDER / f"{stem}.py").read_text()
-        made = {node.name for node in ast.parse(text).body if isinstance(node, (ast.FunctionDef, ast.ClassDef))}
+        tree = ast.parse(text)
+        made = {node.name for node in tree.body if isinstance(node, (ast.FunctionDef, ast.ClassDef))}
+        made |= {node.targets[0].id for node in tree.body if isinstance(node, ast.Assign)}
         self.assertLessEqual(set(names), made)
 
     def test_methods(self):
@@ -138,7 +140,17 @@ class TestFiles(unittest.TestCase):
                     if isinstance(node, ast.Expr):
                         self.assertIsInstance(node.value, ast.Constant)
                     if isinstance(node, ast.Assign):
-                        self.assertIsInstance(node.value, ast.Constant)
+                        self.look_at_value(node.value)
+
+    def look_at_value(self, value):
+        # A plain value, or a table of such, or of functions, without lists and dicts in it.
+        plain = [value]
+        if isinstance(value, ast.Dict):
+            plain = [*value.keys, *value.values]
+        elif isinstance(value, (ast.List, ast.Tuple)):
+            plain = value.elts
+        for one in plain:
+            self.assertIsInstance(one, (ast.Constant, ast.Name))
 
 
 if __name__ == "__main__":

@@ -1,9 +1,10 @@
 """What every part asks of the objects that it is passed."""
 
-from twoworlds.errors import BadAnswers, BadHands, BadKnown, BadLetters, BadNumber, NoQuestion
+from twoworlds.errors import BadAnswers, BadHands, BadKnown, BadLetters, BadNumber, BadWeight, NoQuestion
 
 SMALL_LETTERS = "abcdefghijklmnopqrstuvwxyz"
 SIGNS = "abcdefghijklmnopqrstuvwxyz0123456789."
+DIGITS = "0123456789"
 LONGEST = 40
 MOST_LETTERS = 3
 
@@ -46,9 +47,24 @@ def is_one_of(names, thing):
     return isinstance(thing, str) and thing in names
 
 
+def is_string_of(letters, thing):
+    """Whether any object is a string of the letters, perhaps empty."""
+    return isinstance(thing, str) and all([letter in letters for letter in thing])
+
+
 def is_word(letters, thing):
     """Whether any object is a string of one or more of the letters."""
-    return isinstance(thing, str) and len(thing) > 0 and all([letter in letters for letter in thing])
+    return is_string_of(letters, thing) and len(thing) > 0
+
+
+def are_letters(thing):
+    """Whether any object is a string of one or more unlike small letters."""
+    return is_word(SMALL_LETTERS, thing) and len(set(thing)) == len(thing)
+
+
+def is_digit(thing):
+    """Whether it is an integer from 0 to 9."""
+    return is_count(thing) and thing <= 9
 
 
 def has_just(thing, names):
@@ -128,7 +144,7 @@ def check_counts(known, answers):
 
 def check_letters(letters):
     """BadLetters, if it is no string of one to three unlike small letters."""
-    if not is_word(SMALL_LETTERS, letters) or len(letters) > MOST_LETTERS or len(set(letters)) < len(letters):
+    if not are_letters(letters) or len(letters) > MOST_LETTERS:
         raise BadLetters(letters)
 
 
@@ -136,6 +152,17 @@ def check_from_one(n):
     """BadNumber, if it is no integer from 1 on."""
     if not is_count(n) or n == 0:
         raise BadNumber(n)
+
+
+def check_weights(weights, many):
+    """BadWeight, if weights are no list of so many integers from 1 on."""
+    if not is_list(weights):
+        raise BadWeight(0)
+    for index, weight in enumerate(weights):
+        if not is_count(weight) or weight == 0:
+            raise BadWeight(index)
+    if len(weights) != many:
+        raise BadWeight(len(weights))
 
 
 def check_hands(names, hands):

@@ -2,8 +2,8 @@
 
 from math import gcd
 
-from twoworlds.checks import asked_files, is_count, is_integer, is_list, is_one_of, is_pair
-from twoworlds.errors import BadNumber, BadTree, BadWeight
+from twoworlds.checks import asked_files, check_weights, is_count, is_integer, is_list, is_one_of, is_pair
+from twoworlds.errors import BadNumber, BadTree
 
 
 class Search:
@@ -134,7 +134,7 @@ def fewest(table, asked, of=None):
 
 def mean_fewest(table, weights, asked, of=None):
     """A pair of the least mean number of questions, and a tree that has it, or None."""
-    _check_weights(table, weights)
+    check_weights(weights, len(table))
     search = Search(table, asked, asked_files(table, asked, of), list(weights))
     part = search.whole()
     cost = search.cost(part)
@@ -185,14 +185,3 @@ def is_hold(table, asked, n, thing, of=None):
 def _has_integers(thing, right):
     """Whether a dict has just the integers of another one as keys."""
     return len(thing) == len(right) and all([is_integer(key) and key in right for key in thing])
-
-
-def _check_weights(table, weights):
-    """BadWeight, if weights are no list of integers from 1 on, one for each row."""
-    if not is_list(weights):
-        raise BadWeight(0)
-    for index, weight in enumerate(weights):
-        if not is_count(weight) or weight == 0:
-            raise BadWeight(index)
-    if len(weights) != len(table):
-        raise BadWeight(len(weights))
