@@ -5,6 +5,7 @@ from contextlib import contextmanager
 from itertools import combinations, permutations, product
 
 from twoworlds.boxes import Box
+from twoworlds.codes import Codes
 from twoworlds.files import File
 from twoworlds.nets import Net
 from twoworlds.orders import Seats
@@ -26,6 +27,7 @@ def any_objects():
         ("a", {}), ["a", {0: 0}], ("a", {0: {}}), [("a", 1)], [[[[]]]], table, [table], {"a": table}, (table, table),
         View(table, {"v": "a"}), File(table), Sums(["x"], {"a": ({"x": 1}, 0)}), Shares(2, ["x"], {"a": {"x": 1}}),
         Net({"a": ("b", "b")}), Pieces("a", ["a"]), Box({"a": {"a": ("a", "a")}}, {"a": []}), Seats({"a": (0, 0)}),
+        Codes("a", {"a": {"a": {"a": ("a", "a")}}}, {}),
     ]
 
 
@@ -173,6 +175,38 @@ def all_seated(windows):
         if all(windows[name][0] <= place <= windows[name][1] for name, place in zip(people, places)):
             rows.append([people[places.index(place)] for place in range(len(people))])
     return rows
+
+
+def drawn_code(rng, letters, most_states=3, signs="01", most=2, least=0):
+    """A small code, letters in drawn orders."""
+    states = rng.sample(["s", "r", "t", "q", "p", "o"], rng.randint(1, most_states))
+    return {state: {letter: (rng.choice(states), "".join(rng.choice(signs) for _ in range(rng.randint(least, most))))
+                    for letter in rng.sample(letters, len(letters))} for state in states}
+
+
+def drawn_class(rng, letters, most_states=3, most_mark=1):
+    """A small class, letters in drawn orders."""
+    states = rng.sample(["s", "r", "t", "q", "p", "o"], rng.randint(1, most_states))
+    return {state: (rng.randint(0, most_mark), {letter: rng.choice(states) for letter in rng.sample(
+        letters, len(letters))}) for state in states}
+
+
+def drawn_codes(rng, most_letters=2, most_codes=2, most_classes=2, most_states=3):
+    """A small field of codes and classes; several codes are even ones."""
+    letters = "bac"[:rng.randint(1, most_letters)]
+    many, classes = rng.randint(0, most_codes), rng.randint(0, most_classes)
+    if many + classes == 0:
+        classes = 1
+    least, most = rng.choice(((0, 2), (1, 2), (1, 1), (0, 1), (0, 3))) if many == 1 else (1, 1)
+    signs = rng.choice(("0", "01", "0a1"))
+    return Codes(letters, {f"c{place}": drawn_code(rng, letters, most_states, signs, most, least)
+                           for place in range(many)},
+                 {f"k{place}": drawn_class(rng, letters, most_states, rng.randint(0, 2)) for place in range(classes)})
+
+
+def all_words(letters, longest):
+    """All words of at most so many letters, shorter ones first, then in the order of the letters."""
+    return ["".join(row) for many in range(longest + 1) for row in product(letters, repeat=many)]
 
 
 def sum_of(sums, name, world):

@@ -1,0 +1,143 @@
+"""Two words that show the same, letter by letter: what they tell of what is asked.
+
+A NODE is a triple (one, other, shown): the spots of two words, and what each of them
+shows beyond the other one. A ROW is a node with a fourth thing behind it: what each of
+them tells beyond the other one. SIDES are 0 for the one word and 1 for the other.
+"""
+
+
+class Pairing:
+    """The nodes to which the first one, and some others, lead."""
+
+    def __init__(self, crew, nodes):
+        self._crew = crew
+        self._first = (crew.begin(), crew.begin(), ("", ""))
+        self._steps = self._explored([self._first, *nodes])
+        self._closings = self._looked_back()
+
+    def first_row(self):
+        """The row of two empty words."""
+        return (*self._first, ("", ""))
+
+    def look(self):
+        """A pair of all rows that can end, to which the first one leads, and None; or of None and two words that
+        show and mark the same, of which unlike things are told."""
+        asked, came, todo = {self._first: ("", "")}, {self._first: None}, [self._first]
+        at = 0
+        while at < len(todo):
+            node = todo[at]
+            for side, letter, after, more in self._steps[node]:
+                if after in self._closings:
+                    told, step = _told_more(asked[node], side, more), (node, side, letter)
+                    is_new = after not in asked
+                    if is_new:
+                        asked[after], came[after] = told, step
+                        todo.append(after)
+                    if asked[after] != told or is_new and not self._is_good(after, told):
+                        return (None, self._parted(came, step, after))
+            at += 1
+        return ([(*node, asked[node]) for node in todo], None)
+
+    def are_closed(self, rows):
+        """Whether each row that can end passes, and goes on within the rows."""
+        inside = {row: True for row in rows}
+        return all([self._is_closed(inside, row) for row in rows])
+
+    def _explored(self, nodes):
+        """The dict from all nodes to which some lead to their steps, tuples (side, letter, node, told)."""
+        steps, todo = {}, list(nodes)
+        while len(todo) > 0:
+            node = todo.pop()
+            if node not in steps:
+                steps[node] = self._steps_from(node)
+                todo.extend([step[2] for step in steps[node]])
+        return steps
+
+    def _steps_from(self, node):
+        """The steps by which a node goes on: behind the word that shows less, or behind any of both."""
+        out = []
+        for side in (0, 1):
+            # One of both shows nothing beyond the other; it is the one that goes on.
+            if node[2][side] == "":
+                for letter in self._crew.letters():
+                    spot, mine, told = self._crew.go(node[side], letter)
+                    shown = _beyond(mine, node[2][1 - side])
+                    if shown[0] == "" or shown[1] == "":
+                        after = (spot, node[1], shown) if side == 0 else (node[0], spot, (shown[1], shown[0]))
+                        out.append((side, letter, after, told))
+        return out
+
+    def _looked_back(self):
+        """The dict from all nodes that can end to the steps that lead there soonest, None at an end."""
+        behind = {node: [] for node in self._steps}
+        for node in self._steps:
+            for step in self._steps[node]:
+                behind[step[2]].append((node, step))
+        closings, todo = {}, []
+        for node in self._steps:
+            if self._is_end(node):
+                closings[node] = None
+                todo.append(node)
+        at = 0
+        while at < len(todo):
+            for node, step in behind[todo[at]]:
+                if node not in closings:
+                    closings[node] = step
+                    todo.append(node)
+            at += 1
+        return closings
+
+    def _is_end(self, node):
+        """Whether two words show and mark the same."""
+        return node[2] == ("", "") and self._crew.marks(node[0]) == self._crew.marks(node[1])
+
+    def _is_good(self, node, asked):
+        """Whether what was told up to a node that can end lets the same be told at last."""
+        if asked[0] != "" and asked[1] != "":
+            return False
+        if not self._is_end(node):
+            return True
+        return asked == ("", "") and self._crew.asked_marks(node[0]) == self._crew.asked_marks(node[1])
+
+    def _is_closed(self, inside, row):
+        """Whether a row that can end passes, and has all rows inside to which it goes on."""
+        node = row[:3]
+        if node not in self._closings:
+            return True
+        if not self._is_good(node, row[3]):
+            return False
+        return all([(*after, _told_more(row[3], side, more)) in inside
+                    for side, _, after, more in self._steps[node] if after in self._closings])
+
+    def _parted(self, came, step, node):
+        """Two words that part what is asked: by a step to a node, or as one came to it before, and on to an end."""
+        pairs = [self._words(came, step, node), self._words(came, came[node], node)]
+        return [pair for pair in pairs if self._crew.told(pair[0]) != self._crew.told(pair[1])][0]
+
+    def _words(self, came, step, node):
+        """Two words that come to a node by a step, and then to an end."""
+        words = ["", ""]
+        while step is not None:
+            before, side, letter = step
+            words[side] = letter + words[side]
+            step = came[before]
+        closing = self._closings[node]
+        while closing is not None:
+            words[closing[0]] += closing[1]
+            closing = self._closings[closing[2]]
+        return (words[0], words[1])
+
+
+def _told_more(asked, side, more):
+    """What each word tells beyond the other one if one of them tells more."""
+    told = list(asked)
+    told[side] += more
+    return _beyond(told[0], told[1])
+
+
+def _beyond(one, other):
+    """What each of two strings has beyond their longest common beginning."""
+    at = 0
+    while at < min(len(one), len(other)) and one[at] == other[at]:
+        at += 1
+    return (one[at:], other[at:])
