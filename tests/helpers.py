@@ -7,6 +7,7 @@ from itertools import combinations, permutations, product
 from twoworlds.boxes import Box
 from twoworlds.codes import Codes
 from twoworlds.files import File
+from twoworlds.machines import Machines
 from twoworlds.nets import Net
 from twoworlds.orders import Seats
 from twoworlds.pieces import Pieces
@@ -27,7 +28,7 @@ def any_objects():
         ("a", {}), ["a", {0: 0}], ("a", {0: {}}), [("a", 1)], [[[[]]]], table, [table], {"a": table}, (table, table),
         View(table, {"v": "a"}), File(table), Sums(["x"], {"a": ({"x": 1}, 0)}), Shares(2, ["x"], {"a": {"x": 1}}),
         Net({"a": ("b", "b")}), Pieces("a", ["a"]), Box({"a": {"a": ("a", "a")}}, {"a": []}), Seats({"a": (0, 0)}),
-        Codes("a", {"a": {"a": {"a": ("a", "a")}}}, {}),
+        Codes("a", {"a": {"a": {"a": ("a", "a")}}}, {}), Machines("a", {"a": ("a", {"a": (0, {"a": "a"})})}),
     ]
 
 
@@ -202,6 +203,20 @@ def drawn_codes(rng, most_letters=2, most_codes=2, most_classes=2, most_states=3
     return Codes(letters, {f"c{place}": drawn_code(rng, letters, most_states, signs, most, least)
                            for place in range(many)},
                  {f"k{place}": drawn_class(rng, letters, most_states, rng.randint(0, 2)) for place in range(classes)})
+
+
+def drawn_reader(rng, letters, most_states=3, most_digit=1):
+    """A small reader, letters in drawn orders; it may begin in any state."""
+    states = rng.sample(["s", "r", "t", "q", "p", "o"], rng.randint(1, most_states))
+    return (rng.choice(states), {state: (rng.randint(0, most_digit), {
+        letter: rng.choice(states) for letter in rng.sample(letters, len(letters))}) for state in states})
+
+
+def drawn_machines(rng, most_letters=2, most_readers=3, most_states=3):
+    """A small field of readers."""
+    letters = "bac"[:rng.randint(1, most_letters)]
+    return Machines(letters, {f"m{place}": drawn_reader(rng, letters, most_states, rng.choice((1, 1, 2)))
+                              for place in range(rng.randint(1, most_readers))})
 
 
 def all_words(letters, longest):

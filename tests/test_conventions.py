@@ -5,12 +5,15 @@ import inspect
 import unittest
 
 from tests.helpers import caught
-from twoworlds import clashes, engine, firsts, floors, forests, hands, heights, ladders, links, nets, resets, rings
-from twoworlds import shares, shown, sums, trees
+from twoworlds import clashes, coders, engine, firsts, floors, forests, hands, heights, ladders, links, nets, orders
+from twoworlds import resets, rings, rows, shares, shown, sums, trees
 from twoworlds.boxes import Box
+from twoworlds.codes import Codes
 from twoworlds.errors import NoQuestion, WorldError
 from twoworlds.files import File
+from twoworlds.machines import Machines
 from twoworlds.nets import Net
+from twoworlds.orders import Seats
 from twoworlds.pieces import Pieces
 from twoworlds.shares import Shares
 from twoworlds.sums import Sums
@@ -28,8 +31,18 @@ MOVES = {"p": {"x": ("u", "q"), "y": ("v", "p")}, "q": {"x": ("u", "r"), "y": ("
          "r": {"x": ("u", "r"), "y": ("v", "q")}}
 BOX = Box(MOVES, {"a": ["y", "y"], "b": (["x"], {"p": 1, "q": 2, "r": 3}), "c": ["x"],
                   "s": ([], {"p": 5, "q": 6, "r": 7})})
-FIELDS = {"table": TABLE, "sums": SUMS, "shares": SHARES, "view": VIEW, "net": NET, "rings": RINGS, "box": BOX}
-KINDS = (Table, View, Sums, Shares, Net, Pieces, Box)
+SEATS = Seats({"al": (0, 1), "jo": (1, 2), "kay": (0, 2)})
+ROWS = View(SEATS, {"a": "al", "b": "jo", "c": "at.0", "s": "kay"})
+MUTE = {"x": {"a": ("x", "0"), "b": ("x", "0")}}
+LOUD = {"x": {"a": ("x", "0"), "b": ("y", "1")}, "y": {"a": ("x", "1"), "b": ("y", "0")}}
+PARITY = {"e": (0, {"a": "o", "b": "e"}), "o": (1, {"a": "e", "b": "o"})}
+ENDING = {"n": (0, {"a": "y", "b": "n"}), "y": (1, {"a": "y", "b": "n"})}
+CODES = Codes("ab", {"a": MUTE, "b": LOUD}, {"c": PARITY, "s": ENDING})
+FLAT = {"x": (3, {"a": "x", "b": "x"})}
+MACHINES = Machines("ab", {"a": ("x", FLAT), "b": ("e", PARITY), "c": ("x", FLAT), "s": ("n", ENDING)})
+FIELDS = {"table": TABLE, "sums": SUMS, "shares": SHARES, "view": VIEW, "net": NET, "rings": RINGS, "box": BOX,
+          "rows": ROWS, "codes": CODES, "machines": MACHINES}
+KINDS = (Table, View, Sums, Shares, Net, Pieces, Box, Seats, Codes, Machines)
 HANDS = {"jo": ["a"], "al": ["b", "c"], "kay": []}
 
 
@@ -114,9 +127,39 @@ def box_calls():
             (links.linked_moves, [BOX, Box({"s": {"u": ("k", "s"), "v": ("l", "s")}}, {"a": []})])]
 
 
+def row_calls():
+    """The same for rows of people."""
+    row, other = ["al", "jo", "kay"], ["kay", "al", "jo"]
+    return [(Seats, [{"al": (0, 1), "jo": [0, 1]}, ["jo", "al"], [1]]), (SEATS.windows, []), (SEATS.questions, []),
+            (SEATS.plan, [["al"], "at.0"]), (SEATS.apart, [["at.0"], "jo"]), (SEATS.answers, [other]),
+            (SEATS.are_apart, [[], "jo", (row, other)]), (orders.room, [SEATS, 0, 1]), (orders.swaps, [SEATS]),
+            (orders.is_swap, [SEATS, ("jo", "kay", 1, 2)]), (rows.way, [SEATS, row, other]),
+            (rows.is_way, [SEATS, row, other, [("jo", "kay"), ("al", "kay")]]), (rows.can_be, [SEATS, {"al": 0}, "at.2"]),
+            (rows.row_with, [SEATS, {"al": 0, "at.2": "jo"}]), (rows.stands, [SEATS, "jo"]),
+            (rows.earliest, [SEATS, ["kay", "jo"]]), (rows.orders, [SEATS, "al", "kay"]), (rows.tied, [SEATS]),
+            (rows.many_rows, [SEATS, {"al": 0}]), (rows.number_of, [SEATS, other]), (rows.row_at, [SEATS, 1])]
+
+
+def word_calls():
+    """The same for codes and machines."""
+    reader, answers = CODES.least_reader(["b", "c"], "s"), {"b": "01", "c": 1}
+    lasts = {"b": "010"}
+    return [(coders.is_code, ["ab", LOUD]), (coders.is_class, ["ab", PARITY]), (CODES.letters, []), (CODES.code, ["b"]),
+            (Codes, ["ab", {"a": MUTE, "b": LOUD}, {"c": PARITY}]), (CODES.class_of, ["c"]),
+            (CODES.words, [["b", "c"], {"b": "01", "c": 1}, 3]), (CODES.shortest, [["b", "c"], answers]),
+            (CODES.how_many, [["b", "c"], answers]), (CODES.least_reader, [["b", "c"], "s"]),
+            (CODES.is_reader, [["b", "c"], "s", reader]), (CODES.read, [["b", "c"], "s", reader, answers]),
+            (Machines, ["ab", {"b": ("e", PARITY)}]), (MACHINES.letters, []), (MACHINES.reader, ["b"]),
+            (MACHINES.least_apart, [["c", "a"], "b"]), (MACHINES.many_words, [["b"], lasts]),
+            (MACHINES.nth_word, [["b"], lasts, 0]), (MACHINES.may_say, [["b"], lasts, "s"]),
+            (MACHINES.lag, [["b"], "s"]), (MACHINES.late_words, [["a"], "b", 2]), (MACHINES.late_plan, [["b"], "s", 2]),
+            (MACHINES.is_late_plan, [["b"], "s", 2, MACHINES.late_plan(["b"], "s", 2)]),
+            (MACHINES.unlike_word, ["b", "s"]), (MACHINES.least_reader, ["s"]), (MACHINES.only, [["s", "b"]])]
+
+
 def all_calls():
     return [call for field in FIELDS.values() for call in field_calls(field)] + [
-        *other_calls(), *net_calls(), *ring_calls(), *box_calls()]
+        *other_calls(), *net_calls(), *ring_calls(), *box_calls(), *row_calls(), *word_calls()]
 
 
 def swapped(thing, top=True):

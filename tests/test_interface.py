@@ -37,6 +37,16 @@ CLASSES = {
     "pieces.Pieces": {"__init__": "letters pieces", "letters": "", **FIELD},
     "boxes.Box": {"__init__": "moves questions", "states": "", "letters": "", "move": "state letter",
                   "out": "state row", "end": "state row", **FIELD},
+    "orders.Seats": {"__init__": "windows people=None places=None", "windows": "", "__len__": "", **FIELD},
+    "codes.Codes": {"__init__": "letters codes classes", "letters": "", "code": "name", "class_of": "name",
+                    "words": "known answers most", "shortest": "known answers", "how_many": "known answers",
+                    "least_reader": "known asked", "is_reader": "known asked thing",
+                    "read": "known asked reader answers", **FIELD},
+    "machines.Machines": {"__init__": "letters readers", "letters": "", "reader": "name", "least_apart": "known asked",
+                          "many_words": "known answers", "nth_word": "known answers index",
+                          "may_say": "known answers asked", "lag": "known asked", "late_words": "known asked n",
+                          "late_plan": "known asked n", "is_late_plan": "known asked n thing",
+                          "unlike_word": "one other", "least_reader": "name", "only": "names", "__or__": "other", **FIELD},
     "files.File": {"__init__": "field", "learn": "name", "forget": "name", "known": "", "told": "", "tells": "name",
                    "undo": "", "again": "", "copy": "", "trial": "work"},
 }
@@ -74,6 +84,12 @@ FUNCTIONS = {
     "firsts.first_tree": "box marks", "firsts.is_first_tree": "box marks thing", "firsts.first_row": "box marks",
     "firsts.hard_list": "box marks", "firsts.is_hard_list": "box marks thing",
     "links.linked_moves": "one other", "links.beside_moves": "one other",
+    "orders.room": "seats first last", "orders.is_swap": "seats thing", "orders.swaps": "seats",
+    "rows.way": "seats row other", "rows.is_way": "seats row other thing", "rows.can_be": "seats facts asked",
+    "rows.row_with": "seats facts", "rows.stands": "seats name", "rows.earliest": "seats names",
+    "rows.orders": "seats one other", "rows.tied": "seats", "rows.many_rows": "seats facts",
+    "rows.number_of": "seats row", "rows.row_at": "seats number",
+    "coders.is_code": "letters thing", "coders.is_class": "letters thing",
 }
 
 

@@ -1,15 +1,18 @@
-"""Promises [5], [27], [40], [54], [62] and [72]: each function at the sizes that the document names, under a time limit."""
+"""Promises [5], [27], [40], [54], [62], [72], [82], [92], [102]: the sizes that the document names, under a time limit."""
 
 import random
 import unittest
 from itertools import product
 
 from tests.helpers import drawn_flow, subsets, within
-from twoworlds import clashes, engine, firsts, floors, forests, hands, heights, ladders, links, resets, rings, shares
-from twoworlds import shown, sums, trees
+from twoworlds import clashes, engine, firsts, floors, forests, hands, heights, ladders, links, orders, resets, rings
+from twoworlds import rows, shares, shown, sums, trees
 from twoworlds.boxes import Box
+from twoworlds.codes import Codes
 from twoworlds.files import File
+from twoworlds.machines import Machines
 from twoworlds.nets import Net, table_net
+from twoworlds.orders import Seats
 from twoworlds.pieces import Pieces
 from twoworlds.shares import Shares
 from twoworlds.sums import Sums
@@ -322,6 +325,196 @@ class TestBoxes(unittest.TestCase):
                     self.assertEqual(len(box.states()), 16)
                     self.assertEqual(resets.reset_row(box) is None, resets.keep(box) is not None)
                     resets.alike_states(box)
+
+
+class TestRows(unittest.TestCase):
+    def test_large(self):
+        rng = random.Random(82)
+        for far in (1, 3, 9, 9):
+            windows = {f"person{at}": (max(0, at - rng.randint(0, far)), min(9, at + rng.randint(0, far)))
+                       for at in rng.sample(range(10), 10)}
+            with within(SECONDS):
+                self.look(rng, windows, far)
+
+    def look(self, rng, windows, far):
+        people = list(windows)
+        seats = Seats(windows, rng.sample(people, 8), rng.sample(range(10), 8))
+        names = seats.questions()
+        of = rng.sample(names[1:], 9)
+        for work in (engine.least_files, engine.secrets, engine.needed, engine.idle):
+            work(seats, names[0], of)
+        engine.told_by(seats, names[4:12])
+        held = {f"hand{place}": rng.sample(names, 3) for place in range(7)}
+        hands.least_groups(seats, held, names[0])
+        for _ in range(40):
+            known, asked = rng.sample(names, rng.randint(0, 16)), rng.choice(names)
+            plan, pair = seats.plan(known, asked), seats.apart(known, asked)
+            self.assertEqual(plan is None, pair is not None)
+            if plan is None:
+                self.assertTrue(seats.are_apart(known, asked, pair))
+            else:
+                answers = seats.answers(seats.home())
+                self.assertTrue(seats.is_plan(known, asked, plan))
+                self.assertEqual(seats.found(known, asked, plan, answers), answers[asked])
+        many = rows.many_rows(seats, {})
+        for number in [rng.randrange(many) for _ in range(20)]:
+            row = rows.row_at(seats, number)
+            self.assertEqual(rows.number_of(seats, row), number)
+            self.assertTrue(rows.is_way(seats, row, seats.home(), rows.way(seats, row, seats.home())))
+            facts = {name: seats.answers(row)[name] for name in rng.sample(names, 3)}
+            rows.can_be(seats, facts, rng.choice(names))
+            self.assertTrue(rows.many_rows(seats, facts) > 0 and rows.row_with(seats, facts))
+        self.assertEqual(many == 3628800, all(window == (0, 9) for window in windows.values()))
+        rows.tied(seats)
+        eight = Seats({f"p{at}": (max(0, at - far), min(7, at + far)) for at in range(8)})
+        for name in eight.windows():
+            rows.stands(eight, name)
+            rows.earliest(eight, [name])
+            for other in eight.windows():
+                if name != other:
+                    self.assertEqual(rows.orders(eight, name, other)[0],
+                                     not rows.orders(eight, other, name)[-1])
+
+    def test_all_rows(self):
+        seats = Seats({f"p{at}": (0, 9) for at in range(10)})
+        with within(SECONDS):
+            self.assertEqual(rows.many_rows(seats, {}), 3628800)
+            self.assertEqual(rows.number_of(seats, rows.row_at(seats, 3628799)), 3628799)
+            self.assertEqual(len(orders.swaps(seats)), 2025)
+            self.assertEqual(len(engine.least_files(seats, "p0", [f"p{at}" for at in range(1, 10)])), 1)
+
+
+def drawn_code(rng, letters, many, signs, least, most):
+    states = [f"s{place}" for place in range(many)]
+    return {state: {letter: (rng.choice(states), "".join(rng.choice(signs) for _ in range(rng.randint(least, most))))
+                    for letter in letters} for state in states}
+
+
+def drawn_class(rng, letters, many, most):
+    states = [f"s{place}" for place in range(many)]
+    return {state: (rng.randint(-most, most), {letter: rng.choice(states) for letter in letters}) for state in states}
+
+
+class TestCodes(unittest.TestCase):
+    def test_large(self):
+        rng = random.Random(92)
+        told = 0
+        for _ in range(30):
+            letters = "abcd"[:rng.randint(1, 4)]
+            signs, (least, most) = rng.choice(("0", "01", "0123")), rng.choice(((0, 3), (1, 3), (3, 3), (1, 1), (0, 1)))
+            field = Codes(letters, {"c": drawn_code(rng, letters, 6, signs, least, most)},
+                          {"k": drawn_class(rng, letters, 5, rng.choice((0, 1, 1000)))})
+            with within(SECONDS):
+                for known, asked in ((["c"], "k"), (["k"], "c"), (["c", "k"], "k"), ([], "k"), (["c"], "c")):
+                    told += self.look(rng, field, letters, known, asked)
+        self.assertGreater(told, 60)
+
+    def look(self, rng, field, letters, known, asked):
+        plan, pair = field.plan(known, asked), field.apart(known, asked)
+        self.assertEqual(plan is None, pair is not None)
+        word = "".join(rng.choice(letters) for _ in range(40))
+        while len(field.answers(word)["c"]) > 60:
+            word = word[:-1]
+        answers = field.answers(word)
+        if plan is None:
+            self.assertTrue(field.are_apart(known, asked, pair))
+        else:
+            self.assertTrue(field.is_plan(known, asked, plan))
+            self.assertEqual(field.found(known, asked, plan, answers), answers[asked])
+            if asked == "k":
+                reader = field.least_reader(known, asked)
+                self.assertTrue(field.is_reader(known, asked, reader))
+                self.assertEqual(field.read(known, asked, reader, answers), answers[asked])
+        field.words(known, answers, 8)
+        self.assertLessEqual(len(field.shortest(known, answers)), 40)
+        many = field.how_many(known, answers)
+        self.assertTrue(many is None or many > 0)
+        return plan is not None
+
+    def test_plans_that_callers_make(self):
+        rng = random.Random(921)
+        field = Codes("abcd", {"c": drawn_code(rng, "abcd", 6, "0", 0, 3)}, {"k": drawn_class(rng, "abcd", 5, 0)})
+        spots = [(f"s{one}", f"s{other}") for one in range(6) for other in range(5)]
+        rows_made = [(rng.choice(spots), rng.choice(spots), rng.choice((("0" * rng.randint(0, 6), ""), (
+            "", "0" * rng.randint(0, 6)))), ("", "")) for _ in range(1000)]
+        with within(SECONDS):
+            self.assertIs(field.is_plan(["c"], "k", rows_made), False)
+            self.assertIs(field.is_plan(["c"], "k", field.plan(["c"], "k")), True)
+            reader = [({(): 0}, {"0": (at + 1) % 40}) for at in range(40)]
+            self.assertIs(field.is_reader(["c"], "k", reader), True)
+
+    def test_many_questions(self):
+        rng = random.Random(922)
+        for _ in range(3):
+            codes = {f"c{at}": drawn_code(rng, "abcd", 3 if at == 0 else 1, "01", 1, 1) for at in range(4)}
+            classes = {f"k{at}": drawn_class(rng, "abcd", (5, 2, 1, 1)[at], 1) for at in range(4)}
+            field = Codes("abcd", codes, classes)
+            names = field.questions()
+            with within(SECONDS):
+                for asked in names:
+                    for work in (engine.least_files, engine.secrets, engine.needed, engine.idle):
+                        work(field, asked)
+                engine.told_by(field, names[:4])
+                hands.least_groups(field, {f"hand{at}": rng.sample(names, 2) for at in range(7)}, "k0")
+
+
+class TestMachines(unittest.TestCase):
+    def drawn(self, rng, letters, many, most):
+        states = [f"s{place}" for place in range(many)]
+        return (states[0], {state: (rng.randint(0, most), {letter: rng.choice(states) for letter in letters})
+                            for state in states})
+
+    def test_large(self):
+        rng = random.Random(102)
+        for sizes in ((6, 4, 1), (6, 2, 2), (4, 3, 2), (3, 2, 2, 2), (5, 4), (6, 4), (2, 2, 2, 3)):
+            for most in (0, 1, 1, 2):
+                letters = "abc"[:rng.randint(2, 3)]
+                field = Machines(letters, {f"m{at}": self.drawn(rng, letters, many, most) for at, many in enumerate(sizes)})
+                names = field.questions()
+                with within(SECONDS):
+                    for known, asked in ((names[:-1], names[-1]), (names, names[0]), (names[1:], names[0])):
+                        self.look(field, known, asked)
+
+    def look(self, field, known, asked):
+        plan, pair = field.plan(known, asked), field.apart(known, asked)
+        self.assertEqual(plan is None, pair is not None)
+        if plan is None:
+            self.assertTrue(field.are_apart(known, asked, pair))
+        else:
+            self.assertTrue(field.is_plan(known, asked, plan))
+        lag = field.lag(known, asked)
+        for n in (0, 1, 6):
+            plan, pair = field.late_plan(known, asked, n), field.late_words(known, asked, n)
+            self.assertEqual((plan is None, pair is not None), (lag is None or lag > n,) * 2)
+            if plan is not None:
+                self.assertTrue(field.is_late_plan(known, asked, n, plan))
+        answers = field.answers("ab" * 29 + "a")
+        many = field.many_words(known, answers)
+        self.assertEqual(field.answers(field.nth_word(known, answers, many - 1))[known[0]], answers[known[0]])
+        short = {name: told[:8] for name, told in answers.items()}
+        self.assertIn(short[asked], field.may_say(known, short, asked))
+        names = [f"s{at}" for at in range(60)]
+        keys = ["".join(row) for row in product("012", repeat=len(known))]
+        field.is_late_plan(known, asked, 6, ("s0", {name: {key: (None, names[at % 60]) for at, key in enumerate(keys)}
+                                                    for name in names}))
+
+    def test_many_questions(self):
+        rng = random.Random(1021)
+        for most in (0, 1, 1, 2):
+            sizes = (2, 2, 2, 2, 2, 2, 1, 1, 1, 1, 1, 1, 1, 1, 1, 1)
+            field = Machines("cab", {f"m{at}": self.drawn(rng, "cab", many, most) for at, many in enumerate(sizes)})
+            names = field.questions()
+            with within(SECONDS):
+                for asked in (names[0], names[6]):
+                    for work in (engine.least_files, engine.secrets, engine.needed, engine.idle):
+                        work(field, asked, [name for name in names if name != asked][:9])
+                engine.told_by(field, names[:3])
+                for one in names:
+                    field.least_reader(one)
+                    for known in ([one], names[:6]):
+                        pair = field.least_apart(known, names[1])
+                        self.assertEqual(pair is None, field.is_told(known, names[1]))
+                    field.unlike_word(names[0], one)
 
 
 if __name__ == "__main__":

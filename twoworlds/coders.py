@@ -1,6 +1,6 @@
 """Codes, which show something for each letter of a word, and classes, which mark words."""
 
-from twoworlds.checks import has_just, is_integer, is_name, is_one_of, is_pair, is_string_of
+from twoworlds.checks import are_letters, has_just, is_integer, is_name, is_one_of, is_pair, is_string_of
 
 SHOWN_SIGNS = "abcdefghijklmnopqrstuvwxyz0123456789"
 MOST_SHOWN = 3
@@ -8,7 +8,7 @@ MOST_SHOWN = 3
 
 def is_code(letters, thing):
     """Whether any object is a dict from states to what each letter shows there, and where it leads."""
-    if not _are_states(thing):
+    if not are_letters(letters) or not _are_states(thing):
         return False
     return all([has_just(thing[state], letters) and all([_is_move(thing, thing[state][letter]) for letter in letters])
                 for state in thing])
@@ -16,7 +16,7 @@ def is_code(letters, thing):
 
 def is_class(letters, thing):
     """Whether any object is a dict from states to their marks, and to where each letter leads."""
-    if not _are_states(thing):
+    if not are_letters(letters) or not _are_states(thing):
         return False
     return all([is_pair(thing[state]) and is_integer(thing[state][0]) and _are_steps(letters, thing, thing[state][1])
                 for state in thing])

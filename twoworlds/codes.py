@@ -6,9 +6,10 @@ from twoworlds.coders import SHOWN_SIGNS, is_class, is_code, is_even
 from twoworlds.crews import Crew
 from twoworlds.errors import BadAnswers, BadClass, BadCode, BadLetters, BadNumber, BadPlan, BadReader, BadWorld
 from twoworlds.errors import NoClass, NoQuestion, Uneven
-from twoworlds.mazes import Maze, symbols_of
+from twoworlds.mazes import Maze
 from twoworlds.pairings import Pairing
 from twoworlds.readers import is_reader_for, least_reader_for, led_on
+from twoworlds.woven import woven
 
 
 class Codes:
@@ -27,6 +28,8 @@ class Codes:
         self._machines = {name: _machine_of_code(letters, codes[name]) for name in codes}
         for name in classes:
             self._machines[name] = _machine_of_class(letters, classes[name])
+        # Files are asked for again and again: what was found once is kept.
+        self._tellings = {}
 
     def __eq__(self, other):
         if not isinstance(other, Codes) or self._letters != other._letters:
@@ -49,7 +52,11 @@ class Codes:
 
     def is_told(self, known, asked):
         """Whether known tells asked."""
-        return self._looked(known, asked)[1] is None
+        check_both(self._machines, known, asked)
+        key = (tuple(sorted(known)), asked)
+        if key not in self._tellings:
+            self._tellings[key] = asked in known or self._looked(known, asked)[1] is None
+        return self._tellings[key]
 
     def plan(self, known, asked):
         """The list of all rows that can end and to which the first one goes on, or None."""
@@ -62,7 +69,7 @@ class Codes:
         if not is_list(thing) or not all([_is_row(crew, row) for row in thing]):
             return False
         rows = [tuple([tuple(part) for part in row]) for row in thing]
-        pairing = Pairing(crew, [row[:3] for row in rows])
+        pairing = Pairing(crew, rows)
         return pairing.first_row() in rows and pairing.are_closed(rows)
 
     def found(self, known, asked, plan, answers):
@@ -138,7 +145,7 @@ class Codes:
             raise BadReader(reader)
         self._check_answers(known, answers)
         codes, classes = self._parts(known)
-        index, symbols = 0, symbols_of([answers[name] for name in codes])
+        index, symbols = 0, woven([answers[name] for name in codes])
         if symbols is not None:
             index = led_on(reader, index, symbols)
         marks = tuple([answers[name] for name in classes])

@@ -1,21 +1,22 @@
 """All words that have some answers to codes and classes."""
 
+from twoworlds.woven import woven
+
 
 class Maze:
     """The ways of words along what they are to show, to the marks that they are to have.
 
-    A node is a pair of a spot and the number of signs that are shown by then.
+    A node is a pair of the number of a spot, and of how many signs are shown by then.
     """
 
     def __init__(self, crew, texts, marks):
-        self._letters = sorted(crew.letters())
-        self._first = (crew.begin(), 0)
+        self._first = (0, 0)
         self._ends = {}
         self._steps = {}
-        symbols = symbols_of(texts)
+        symbols = woven(texts)
         if symbols is not None:
             text = "".join(symbols)
-            steps = _explored(crew, self._letters, self._first, text)
+            steps = _explored(crew, self._first, text)
             for node in steps:
                 if node[1] == len(text) and crew.marks(node[0]) == marks:
                     self._ends[node] = True
@@ -67,27 +68,15 @@ class Maze:
         return sum([ways[node] for node in self._ends]) if len(todo) == len(self._steps) else None
 
 
-def symbols_of(texts):
-    """The signs of some strings, place by place; None if they are not of one length."""
-    if len(texts) == 0:
-        return []
-    if not all([len(text) == len(texts[0]) for text in texts]):
-        return None
-    return ["".join([text[at] for text in texts]) for at in range(len(texts[0]))]
-
-
-def _explored(crew, letters, first, text):
-    """The dict from all nodes to which the first one leads to lists of pairs (letter, node)."""
+def _explored(crew, first, text):
+    """The dict from all nodes to which the first one leads to lists of pairs (letter, node), letters ascending."""
     steps, todo = {}, [first]
     while len(todo) > 0:
         node = todo.pop()
         if node not in steps:
-            spot, at = node
-            steps[node] = []
-            for letter in letters:
-                after, shown, _ = crew.go(spot, letter)
-                if text[at:at + len(shown)] == shown:
-                    steps[node].append((letter, (after, at + len(shown))))
+            number, at = node
+            steps[node] = sorted([(letter, (after, at + len(shown))) for letter, (after, shown, _) in zip(
+                crew.letters(), crew.moves(number)) if text[at:at + len(shown)] == shown])
             todo.extend([after for _, after in steps[node]])
     return steps
 

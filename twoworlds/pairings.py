@@ -1,29 +1,29 @@
 """Two words that show the same, letter by letter: what they tell of what is asked.
 
-A NODE is a triple (one, other, shown): the spots of two words, and what each of them
-shows beyond the other one. A ROW is a node with a fourth thing behind it: what each of
-them tells beyond the other one. SIDES are 0 for the one word and 1 for the other.
+A NODE is a tuple (one, other, more, rest): the numbers of the spots of two words, and what
+each of them shows beyond the other one. A ROW stands for a node, with spots and pairs, and
+with a fourth thing behind it: what each word tells beyond the other one. SIDES are 0 for
+the one word and 1 for the other; a STEP is a tuple (side, letter, node, told).
 """
 
 
 class Pairing:
-    """The nodes to which the first one, and some others, lead."""
+    """The nodes to which the first one, and those of some rows, lead."""
 
-    def __init__(self, crew, nodes):
+    def __init__(self, crew, rows):
         self._crew = crew
-        self._first = (crew.begin(), crew.begin(), ("", ""))
-        self._steps = self._explored([self._first, *nodes])
+        self._steps = self._explored([(0, 0, "", ""), *[self._node_of(row) for row in rows]])
         self._closings = self._looked_back()
 
     def first_row(self):
         """The row of two empty words."""
-        return (*self._first, ("", ""))
+        return self._row_of((0, 0, "", ""), ("", ""))
 
     def look(self):
         """A pair of all rows that can end, to which the first one leads, and None; or of None and two words that
         show and mark the same, of which unlike things are told."""
-        asked, came, todo = {self._first: ("", "")}, {self._first: None}, [self._first]
-        at = 0
+        first = (0, 0, "", "")
+        asked, came, todo, at = {first: ("", "")}, {first: None}, [first], 0
         while at < len(todo):
             node = todo[at]
             for side, letter, after, more in self._steps[node]:
@@ -36,15 +36,24 @@ class Pairing:
                     if asked[after] != told or is_new and not self._is_good(after, told):
                         return (None, self._parted(came, step, after))
             at += 1
-        return ([(*node, asked[node]) for node in todo], None)
+        return ([self._row_of(node, asked[node]) for node in todo], None)
 
     def are_closed(self, rows):
         """Whether each row that can end passes, and goes on within the rows."""
-        inside = {row: True for row in rows}
-        return all([self._is_closed(inside, row) for row in rows])
+        inside = {(self._node_of(row), row[3]): True for row in rows}
+        return all([self._is_closed(inside, node, asked) for node, asked in inside])
+
+    def _node_of(self, row):
+        """The node of a row."""
+        return (self._crew.number(row[0]), self._crew.number(row[1]), row[2][0], row[2][1])
+
+    def _row_of(self, node, asked):
+        """The row of a node."""
+        one, other, more, rest = node
+        return (self._crew.spot(one), self._crew.spot(other), (more, rest), asked)
 
     def _explored(self, nodes):
-        """The dict from all nodes to which some lead to their steps, tuples (side, letter, node, told)."""
+        """The dict from all nodes to which some lead to their steps."""
         steps, todo = {}, list(nodes)
         while len(todo) > 0:
             node = todo.pop()
@@ -55,16 +64,21 @@ class Pairing:
 
     def _steps_from(self, node):
         """The steps by which a node goes on: behind the word that shows less, or behind any of both."""
-        out = []
-        for side in (0, 1):
-            # One of both shows nothing beyond the other; it is the one that goes on.
-            if node[2][side] == "":
-                for letter in self._crew.letters():
-                    spot, mine, told = self._crew.go(node[side], letter)
-                    shown = _beyond(mine, node[2][1 - side])
-                    if shown[0] == "" or shown[1] == "":
-                        after = (spot, node[1], shown) if side == 0 else (node[0], spot, (shown[1], shown[0]))
-                        out.append((side, letter, after, told))
+        one, other, more, rest = node
+        letters, out = self._crew.letters(), []
+        # One of both shows nothing beyond the other; it is the one that goes on.
+        if more == "":
+            for letter, (after, shown, told) in zip(letters, self._crew.moves(one)):
+                if shown.startswith(rest):
+                    out.append((0, letter, (after, other, shown[len(rest):], ""), told))
+                elif rest.startswith(shown):
+                    out.append((0, letter, (after, other, "", rest[len(shown):]), told))
+        if rest == "":
+            for letter, (after, shown, told) in zip(letters, self._crew.moves(other)):
+                if shown.startswith(more):
+                    out.append((1, letter, (one, after, "", shown[len(more):]), told))
+                elif more.startswith(shown):
+                    out.append((1, letter, (one, after, more[len(shown):], ""), told))
         return out
 
     def _looked_back(self):
@@ -73,12 +87,8 @@ class Pairing:
         for node in self._steps:
             for step in self._steps[node]:
                 behind[step[2]].append((node, step))
-        closings, todo = {}, []
-        for node in self._steps:
-            if self._is_end(node):
-                closings[node] = None
-                todo.append(node)
-        at = 0
+        closings = {node: None for node in self._steps if self._is_end(node)}
+        todo, at = list(closings), 0
         while at < len(todo):
             for node, step in behind[todo[at]]:
                 if node not in closings:
@@ -89,7 +99,8 @@ class Pairing:
 
     def _is_end(self, node):
         """Whether two words show and mark the same."""
-        return node[2] == ("", "") and self._crew.marks(node[0]) == self._crew.marks(node[1])
+        one, other, more, rest = node
+        return more == rest and self._crew.marks(one) == self._crew.marks(other)
 
     def _is_good(self, node, asked):
         """Whether what was told up to a node that can end lets the same be told at last."""
@@ -99,14 +110,13 @@ class Pairing:
             return True
         return asked == ("", "") and self._crew.asked_marks(node[0]) == self._crew.asked_marks(node[1])
 
-    def _is_closed(self, inside, row):
-        """Whether a row that can end passes, and has all rows inside to which it goes on."""
-        node = row[:3]
+    def _is_closed(self, inside, node, asked):
+        """Whether a node that can end passes, and has all those inside to which it goes on."""
         if node not in self._closings:
             return True
-        if not self._is_good(node, row[3]):
+        if not self._is_good(node, asked):
             return False
-        return all([(*after, _told_more(row[3], side, more)) in inside
+        return all([(after, _told_more(asked, side, more)) in inside
                     for side, _, after, more in self._steps[node] if after in self._closings])
 
     def _parted(self, came, step, node):
@@ -130,13 +140,9 @@ class Pairing:
 
 def _told_more(asked, side, more):
     """What each word tells beyond the other one if one of them tells more."""
-    told = list(asked)
-    told[side] += more
-    return _beyond(told[0], told[1])
-
-
-def _beyond(one, other):
-    """What each of two strings has beyond their longest common beginning."""
+    if more == "":
+        return asked
+    one, other = (asked[0] + more, asked[1]) if side == 0 else (asked[0], asked[1] + more)
     at = 0
     while at < min(len(one), len(other)) and one[at] == other[at]:
         at += 1

@@ -9,15 +9,14 @@ def is_reader_for(crew, thing):
     """Whether any object is a reader that tells the asked class of all words."""
     if not is_list(thing) or len(thing) == 0 or not all([_is_pair_of(crew, len(thing), pair) for pair in thing]):
         return False
-    seen, todo = {}, [(crew.begin(), 0)]
+    seen, todo = {}, [(0, 0)]
     while len(todo) > 0:
-        spot, index = todo.pop()
-        if (spot, index) not in seen:
-            seen[(spot, index)] = True
-            if thing[index][0].get(crew.marks(spot)) != crew.asked_marks(spot)[0]:
+        number, index = todo.pop()
+        if (number, index) not in seen:
+            seen[(number, index)] = True
+            if thing[index][0].get(crew.marks(number)) != crew.asked_marks(number)[0]:
                 return False
-            for letter in crew.letters():
-                after, shown, _ = crew.go(spot, letter)
+            for after, shown, _ in crew.moves(number):
                 led = led_on(thing, index, crew.symbols(shown))
                 if led is None:
                     return False
@@ -53,22 +52,19 @@ def least_reader_for(crew):
 def _merged(crew):
     """A list of triples (marks, asked mark, moves) of the spots of words, of which alike ones are one; a move is
     a pair of the number of the triple to which a letter leads and of what is shown."""
-    spots, at = [crew.begin()], 0
-    numbers, moves = {spots[0]: 0}, []
-    while at < len(spots):
-        moves.append([])
-        for letter in crew.letters():
-            after, shown, _ = crew.go(spots[at], letter)
-            if after not in numbers:
-                numbers[after] = len(spots)
-                spots.append(after)
-            moves[at].append((numbers[after], shown))
-        at += 1
-    keys = [(crew.marks(spot), crew.asked_marks(spot), tuple([shown for _, shown in row]))
-            for spot, row in zip(spots, moves)]
-    firsts = first_alike(keys, [[after for after, _ in row] for row in moves])
-    return [(keys[at][0], keys[at][1][0], [(firsts[after], shown) for after, shown in moves[at]])
-            for at in range(len(spots))]
+    moves, todo = {}, [0]
+    while len(todo) > 0:
+        number = todo.pop()
+        if number not in moves:
+            moves[number] = [(after, shown) for after, shown, _ in crew.moves(number)]
+            todo.extend([after for after, _ in moves[number]])
+    # All spots that have numbers are those of words.
+    numbers = sorted(moves)
+    keys = [(crew.marks(number), crew.asked_marks(number), tuple([shown for _, shown in moves[number]]))
+            for number in numbers]
+    firsts = first_alike(keys, [[after for after, _ in moves[number]] for number in numbers])
+    return [(keys[number][0], keys[number][1][0], [(firsts[after], shown) for after, shown in moves[number]])
+            for number in numbers]
 
 
 def _beginnings(crew, merged):
