@@ -5,9 +5,12 @@ from contextlib import contextmanager
 from itertools import combinations, permutations, product
 
 from twoworlds.boxes import Box
+from twoworlds.bundles import Bundles
 from twoworlds.codes import Codes
+from twoworlds.desks import Desk
 from twoworlds.files import File
 from twoworlds.machines import Machines
+from twoworlds.mixes import Mix
 from twoworlds.nets import Net
 from twoworlds.orders import Seats
 from twoworlds.pieces import Pieces
@@ -29,6 +32,7 @@ def any_objects():
         View(table, {"v": "a"}), File(table), Sums(["x"], {"a": ({"x": 1}, 0)}), Shares(2, ["x"], {"a": {"x": 1}}),
         Net({"a": ("b", "b")}), Pieces("a", ["a"]), Box({"a": {"a": ("a", "a")}}, {"a": []}), Seats({"a": (0, 0)}),
         Codes("a", {"a": {"a": {"a": ("a", "a")}}}, {}), Machines("a", {"a": ("a", {"a": (0, {"a": "a"})})}),
+        Mix({"a": table}), Bundles(table, {"a": ["a"]}), Desk(),
     ]
 
 
@@ -222,6 +226,79 @@ def drawn_machines(rng, most_letters=2, most_readers=3, most_states=3):
 def all_words(letters, longest):
     """All words of at most so many letters, shorter ones first, then in the order of the letters."""
     return ["".join(row) for many in range(longest + 1) for row in product(letters, repeat=many)]
+
+
+def drawn_pieces(rng):
+    """A small field of pieces of rings."""
+    words = [word for word in all_words("ab", 2) if word]
+    return Pieces("ab", rng.sample(words, rng.randint(1, 5)))
+
+
+def drawn_shares(rng):
+    """A small field of shares."""
+    unknowns = ["x", "y", "z"][:rng.randint(1, 3)]
+    return Shares(rng.choice((2, 3, 5)), unknowns, {f"q{place}": {name: rng.randint(-3, 3) for name in drawn_names(
+        rng, unknowns)} for place in range(rng.randint(1, 5))})
+
+
+def drawn_view(rng, field):
+    """A view of a field, in which several names may stand for one question."""
+    return View(field, {f"v{place}": rng.choice(field.questions()) for place in range(rng.randint(1, 5))})
+
+
+def drawn_mix(rng, deep=1):
+    """A mix of up to three fields of any kinds."""
+    return Mix({name: drawn_field(rng, deep) for name in rng.sample(["m", "k", "l", "j"], rng.randint(1, 3))})
+
+
+def drawn_bundles(rng, field):
+    """Bundles of one to three questions of a field."""
+    questions = field.questions()
+    return Bundles(field, {f"b{place}": rng.sample(questions, rng.randint(1, min(3, len(questions))))
+                           for place in range(rng.randint(1, 4))})
+
+
+DRAWS = {"table": drawn_table, "sums": drawn_sums, "shares": drawn_shares, "net": drawn_net, "pieces": drawn_pieces,
+         "box": drawn_box, "seats": drawn_seats, "codes": drawn_codes, "machines": drawn_machines}
+
+
+def drawn_field(rng, deep=1):
+    """A small field of any kind; where it may be deep, also a view, a mix or bundles of others."""
+    kind = rng.randrange(4) if deep else 3
+    if kind == 0:
+        return drawn_view(rng, drawn_field(rng, deep - 1))
+    if kind == 1:
+        return drawn_mix(rng, deep - 1)
+    if kind == 2:
+        return drawn_bundles(rng, drawn_field(rng, deep - 1))
+    return DRAWS[rng.choice(list(DRAWS))](rng)
+
+
+def some_worlds(rng, field, many=6):
+    """Some worlds of a field of any kind; home may stand among them several times."""
+    if isinstance(field, View):
+        return some_worlds(rng, field._field, many)
+    if isinstance(field, Bundles):
+        return some_worlds(rng, field._field, many)
+    if isinstance(field, Mix):
+        parts = {name: some_worlds(rng, part, many) for name, part in field.parts().items()}
+        return [{name: rng.choice(parts[name]) for name in parts} for _ in range(many)]
+    if isinstance(field, Table):
+        return [rng.choice(field.rows()) for _ in range(many)]
+    if isinstance(field, Sums):
+        return [drawn_world(rng, field) for _ in range(many)]
+    if isinstance(field, Shares):
+        return [{name: rng.randrange(field.prime) for name in field.unknowns()} for _ in range(many)]
+    if isinstance(field, Net):
+        return [drawn_flow(rng, field) for _ in range(many)]
+    if isinstance(field, Pieces):
+        return ["".join(rng.choice(field.letters()) for _ in range(rng.randint(1, 8))) for _ in range(many)]
+    if isinstance(field, Box):
+        return [rng.choice(field.states()) for _ in range(many)]
+    if isinstance(field, Seats):
+        rows = all_seated(field.windows())
+        return [rng.choice(rows) for _ in range(many)]
+    return ["".join(rng.choice(field.letters()) for _ in range(rng.randint(0, 8))) for _ in range(many)]
 
 
 def sum_of(sums, name, world):

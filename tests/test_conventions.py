@@ -5,13 +5,16 @@ import inspect
 import unittest
 
 from tests.helpers import caught
-from twoworlds import clashes, coders, engine, firsts, floors, forests, hands, heights, ladders, links, nets, orders
-from twoworlds import resets, rings, rows, shares, shown, sums, trees
+from twoworlds import clashes, coders, cuts, engine, firsts, floors, forests, hands, heights, ladders, links, nets
+from twoworlds import orders, resets, rings, rows, shares, shown, sums, talks, texts, trees
 from twoworlds.boxes import Box
+from twoworlds.bundles import Bundles
 from twoworlds.codes import Codes
+from twoworlds.desks import Desk
 from twoworlds.errors import NoQuestion, WorldError
 from twoworlds.files import File
 from twoworlds.machines import Machines
+from twoworlds.mixes import Mix
 from twoworlds.nets import Net
 from twoworlds.orders import Seats
 from twoworlds.pieces import Pieces
@@ -40,9 +43,11 @@ ENDING = {"n": (0, {"a": "y", "b": "n"}), "y": (1, {"a": "y", "b": "n"})}
 CODES = Codes("ab", {"a": MUTE, "b": LOUD}, {"c": PARITY, "s": ENDING})
 FLAT = {"x": (3, {"a": "x", "b": "x"})}
 MACHINES = Machines("ab", {"a": ("x", FLAT), "b": ("e", PARITY), "c": ("x", FLAT), "s": ("n", ENDING)})
+MIX = Mix({"t": TABLE, "m": MACHINES})
 FIELDS = {"table": TABLE, "sums": SUMS, "shares": SHARES, "view": VIEW, "net": NET, "rings": RINGS, "box": BOX,
-          "rows": ROWS, "codes": CODES, "machines": MACHINES}
-KINDS = (Table, View, Sums, Shares, Net, Pieces, Box, Seats, Codes, Machines)
+          "rows": ROWS, "codes": CODES, "machines": MACHINES, "mix": View(MIX, {"a": "m.a", "b": "m.b", "c": "t.c", "s": "m.s"}),
+          "bundles": Bundles(TABLE, {"a": ["a"], "b": ("b",), "c": ["c", "a"], "s": ["s", "b"]})}
+KINDS = (Table, View, Sums, Shares, Net, Pieces, Box, Seats, Codes, Machines, Mix, Bundles, Desk)
 HANDS = {"jo": ["a"], "al": ["b", "c"], "kay": []}
 
 
@@ -157,9 +162,31 @@ def word_calls():
             (MACHINES.unlike_word, ["b", "s"]), (MACHINES.least_reader, ["s"]), (MACHINES.only, [["s", "b"]])]
 
 
+def talk_calls():
+    """The same for what stands above all fields, and for texts and desks."""
+    talk, desk = [("jo", "al"), ["al", "kay"]], Desk()
+    desk.keep("t", TABLE)
+    desk.keep("h", HANDS)
+    desk.keep("l", talk)
+    tellings, silent = [("jo", "al", "a"), ["al", "kay", "s"]], [("al", "jo")]
+    guard = talks.shield(TABLE, HANDS, silent, "kay", "s")
+    return [(Mix, [{"t": TABLE, "m": MACHINES}]), (MIX.parts, []), (MIX.questions, []), (MIX.home, []),
+            (MIX.answers, [{"m": "ab", "t": TABLE.home()}]), (MIX.apart, [["t.a"], "m.b"]),
+            (Bundles, [TABLE, {"x": ["b", "a"]}]), (FIELDS["bundles"].bundles, []), (FIELDS["bundles"].answers, [TABLE.home()]),
+            (talks.talked, [TABLE, HANDS, talk, tellings]), (talks.all_talked, [TABLE, HANDS, talk]),
+            (talks.leak, [TABLE, HANDS, talk, "kay", "s"]), (talks.is_leak, [TABLE, HANDS, talk, "kay", "s", tellings]),
+            (talks.shield, [TABLE, HANDS, silent, "kay", "s"]),
+            (talks.is_shield, [TABLE, HANDS, silent, "kay", "s", guard]), (cuts.ways, [TABLE, HANDS, talk, "kay", "s"]),
+            (cuts.cuts, [TABLE, HANDS, talk, "kay", "s"]), (cuts.lightest_cut, [TABLE, HANDS, talk, [3, 2], "kay", "s"]),
+            (texts.write_table, [TABLE]), (texts.read_table, [texts.write_table(TABLE)]), (texts.write_hands, [HANDS]),
+            (texts.read_hands, [texts.write_hands(HANDS)]), (texts.write_links, [talk]),
+            (texts.read_links, [texts.write_links(talk)]), (desk.kept, ["h"]), (desk.kept, ["l"]), (desk.kept, ["t"]),
+            (desk.names, []), (desk.told, ["text t"]), (desk.log, [])]
+
+
 def all_calls():
     return [call for field in FIELDS.values() for call in field_calls(field)] + [
-        *other_calls(), *net_calls(), *ring_calls(), *box_calls(), *row_calls(), *word_calls()]
+        *other_calls(), *net_calls(), *ring_calls(), *box_calls(), *row_calls(), *word_calls(), *talk_calls()]
 
 
 def swapped(thing, top=True):

@@ -47,6 +47,10 @@ CLASSES = {
                           "may_say": "known answers asked", "lag": "known asked", "late_words": "known asked n",
                           "late_plan": "known asked n", "is_late_plan": "known asked n thing",
                           "unlike_word": "one other", "least_reader": "name", "only": "names", "__or__": "other", **FIELD},
+    "mixes.Mix": {"__init__": "parts", "parts": "", **FIELD},
+    "bundles.Bundles": {"__init__": "field bundles", "bundles": "", **FIELD},
+    "desks.Desk": {"__init__": "", "keep": "name thing", "kept": "name", "names": "", "told": "line", "undo": "",
+                   "again": "", "copy": "", "trial": "work", "log": ""},
     "files.File": {"__init__": "field", "learn": "name", "forget": "name", "known": "", "told": "", "tells": "name",
                    "undo": "", "again": "", "copy": "", "trial": "work"},
 }
@@ -90,6 +94,14 @@ FUNCTIONS = {
     "rows.orders": "seats one other", "rows.tied": "seats", "rows.many_rows": "seats facts",
     "rows.number_of": "seats row", "rows.row_at": "seats number",
     "coders.is_code": "letters thing", "coders.is_class": "letters thing",
+    "talks.talked": "field hands links tellings", "talks.all_talked": "field hands links",
+    "talks.leak": "field hands links name asked", "talks.is_leak": "field hands links name asked thing",
+    "talks.shield": "field hands links name asked", "talks.is_shield": "field hands links name asked thing",
+    "cuts.ways": "field hands links name asked", "cuts.cuts": "field hands links name asked",
+    "cuts.lightest_cut": "field hands links weights name asked",
+    "texts.write_table": "table", "texts.read_table": "text", "texts.write_hands": "hands", "texts.read_hands": "text",
+    "texts.write_links": "links", "texts.read_links": "text",
+    "desks.replayed": "lines things",
 }
 
 

@@ -1,16 +1,19 @@
-"""Promises [5], [27], [40], [54], [62], [72], [82], [92], [102]: the sizes that the document names, under a time limit."""
+"""Promises [5], [27], [40], [54], [62], [72], [82], [92], [102] and [114]: the sizes that the document names, in time."""
 
 import random
 import unittest
 from itertools import product
 
 from tests.helpers import drawn_flow, subsets, within
-from twoworlds import clashes, engine, firsts, floors, forests, hands, heights, ladders, links, orders, resets, rings
-from twoworlds import rows, shares, shown, sums, trees
+from twoworlds import clashes, cuts, engine, firsts, floors, forests, hands, heights, ladders, links, orders, resets
+from twoworlds import rings, rows, shares, shown, sums, talks, texts, trees
 from twoworlds.boxes import Box
+from twoworlds.bundles import Bundles
 from twoworlds.codes import Codes
+from twoworlds.desks import Desk, replayed
 from twoworlds.files import File
 from twoworlds.machines import Machines
+from twoworlds.mixes import Mix
 from twoworlds.nets import Net, table_net
 from twoworlds.orders import Seats
 from twoworlds.pieces import Pieces
@@ -20,6 +23,8 @@ from twoworlds.tables import Table
 from twoworlds.views import View
 
 SECONDS = 20
+HANDS = ["jo", "al", "kay", "bo"]
+PAIRS = [(one, other) for one in HANDS for other in HANDS if one != other]
 PRIMES = (999999999999989, 999999999999947, 10 ** 15 - 1, 2, 720720 ** 2)
 
 
@@ -515,6 +520,125 @@ class TestMachines(unittest.TestCase):
                         pair = field.least_apart(known, names[1])
                         self.assertEqual(pair is None, field.is_told(known, names[1]))
                     field.unlike_word(names[0], one)
+
+
+class TestMixesAndBundles(unittest.TestCase):
+    def test_large(self):
+        rng = random.Random(114)
+        parts = {"partone1": large_table(rng, 4), "parttwo2": Sums(["x", "y"], {f"q{at}": (
+            {"x": rng.randint(-9, 9), "y": rng.randint(-9, 9)}, 0) for at in range(4)}),
+            "three": table_net(["a"], ["x"]), "four": Codes("ab", {"c": drawn_code(rng, "ab", 5, "01", 0, 2)},
+                                                           {"k": drawn_class(rng, "ab", 6, 1)})}
+        mix = Mix(parts)
+        names = mix.questions()
+        bundles = Bundles(mix, {f"b{at}": rng.sample(names, 4) for at in range(6)})
+        for field in (mix, bundles, Mix({"m": mix, "b": bundles})):
+            names = field.questions()
+            with within(SECONDS):
+                for asked in names[:6]:
+                    for work in (engine.least_files, engine.secrets, engine.needed, engine.idle):
+                        work(field, asked, [name for name in names if name != asked][:9])
+                    known = rng.sample(names, 5)
+                    plan, pair = field.plan(known, asked), field.apart(known, asked)
+                    self.assertEqual(plan is None, pair is not None)
+                    if plan is None:
+                        self.assertTrue(field.are_apart(known, asked, pair))
+                    else:
+                        answers = field.answers(field.home())
+                        self.assertEqual(field.found(known, asked, plan, answers), answers[asked])
+                engine.told_by(field, names)
+
+
+class TestTalks(unittest.TestCase):
+    def fields(self, rng):
+        bits = Table([{**{f"q{at}": number >> at & 1 for at in range(5)}, "s": bin(number).count("1") % 2}
+                      for number in range(32)])
+        drawn = Table([{name: rng.randrange(2) for name in ["s", "a", "b", "c", "d", "e"]} for _ in range(rng.randint(4, 60))])
+        handed = shares.handed_out(7, ["a", "b", "c", "d", "e"], rng.randint(2, 5))
+        machines = Machines("ab", {f"m{at}": TestMachines().drawn(rng, "ab", (2, 2, 2, 3, 1, 1)[at], 1) for at in range(6)})
+        codes = Codes("ab", {"c": drawn_code(rng, "ab", 3, "01", 1, 2)}, {
+            f"k{at}": drawn_class(rng, "ab", (5, 2, 1, 1, 1)[at], 1) for at in range(5)})
+        mix = Mix({"m": Table(bits.only(["q0", "q1", "s"]).rows()), "n": machines.only(["m0", "m1", "m2"])})
+        return [bits, drawn, handed, machines, codes, mix]
+
+    def test_large(self):
+        rng = random.Random(1141)
+        for _ in range(12):
+            for field in self.fields(rng):
+                names = field.questions()
+                held = {name: [] for name in HANDS}
+                for name in names[:-1] if rng.random() < 0.5 else names[1:]:
+                    held[rng.choice(HANDS)].append(name)
+                wires = rng.sample(PAIRS, 6)
+                with within(SECONDS):
+                    self.look(rng, field, held, wires)
+
+    def look(self, rng, field, held, wires):
+        for asked in (field.questions()[0], field.questions()[-1]):
+            for name in held:
+                found, guard = talks.leak(field, held, wires, name, asked), talks.shield(field, held, wires, name, asked)
+                self.assertEqual(found is None, guard is not None)
+                if found is None:
+                    self.assertTrue(talks.is_shield(field, held, wires, name, asked, guard))
+                else:
+                    self.assertTrue(talks.is_leak(field, held, wires, name, asked, found))
+                cut = cuts.cuts(field, held, wires, name, asked)
+                self.assertEqual(cut == [[]], found is None)
+                cuts.ways(field, held, wires, name, asked)
+                light = cuts.lightest_cut(field, held, wires, [rng.randint(1, 1000) for _ in wires], name, asked)
+                self.assertEqual(light is None, cut == [])
+        talks.talked(field, held, wires, [])
+
+    def test_a_long_leak(self):
+        # Each hand has a bit of its own, and the last one one more; the links go round.
+        bits = Table([{**{f"q{at}": number >> at & 1 for at in range(5)}, "s": bin(number).count("1") % 2}
+                      for number in range(32)])
+        held = {"jo": ["q0", "q1"], "al": ["q2"], "kay": ["q3"], "bo": ["q4"]}
+        ring = [("jo", "al"), ("al", "kay"), ("kay", "bo"), ("bo", "jo"), ("al", "jo"), ("kay", "al")]
+        with within(SECONDS):
+            for name in held:
+                found = talks.leak(bits, held, ring, name, "s")
+                self.assertTrue(talks.is_leak(bits, held, ring, name, "s", found))
+                self.assertGreater(len(found), 3)
+
+
+class TestTextsAndDesks(unittest.TestCase):
+    def test_texts(self):
+        rng = random.Random(1142)
+        table = Table([{f"q{at}": rng.randint(-10 ** 5, 10 ** 5) for at in range(14)} for _ in range(60)])
+        held = {f"hand{at}": [f"q{rng.randrange(10)}{to}" for to in range(20)] for at in range(60)}
+        wires = [(f"hand{one}", f"hand{other}") for one in range(18) for other in range(18) if one != other]
+        for write, read, thing in ((texts.write_table, texts.read_table, table), (texts.write_hands, texts.read_hands, held),
+                                   (texts.write_links, texts.read_links, wires)):
+            with within(SECONDS):
+                text = write(thing)
+                self.assertGreater(len(text), 5000)
+                self.assertEqual(read(text), thing)
+
+    def test_desks(self):
+        rng = random.Random(1143)
+        for most in (2, 3, 1000):
+            table = large_table(rng, 10, most=most)
+            desk = Desk()
+            things = {"t": table, "h": {name: rng.sample(table.questions()[:6], 2) for name in HANDS},
+                      "l": rng.sample(PAIRS, 6)}
+            with within(SECONDS):
+                for name in things:
+                    desk.keep(name, things[name])
+                desk.told("only u t " + " ".join(table.questions()[:6]))
+                for at in range(26):
+                    desk.told(f"give h{at} h jo question{at % 6}" if at % 2 else f"join j{at} u u")
+                for asked in table.questions()[:6]:
+                    for line in (f"least t {asked}", f"secrets t {asked}", f"told t {asked} question5 question4",
+                                 f"knows t h {asked} jo al", f"leak u h l jo {asked}", f"cuts u h l kay {asked}", "reach u h l bo"):
+                        desk.told(line)
+                twin = replayed(desk.log(), things)
+                self.assertEqual([twin.told(f"text {name}") for name in twin.names()],
+                                 [desk.told(f"text {name}") for name in desk.names()])
+                self.assertEqual(len(desk.log()), 30)
+                while desk.undo():
+                    desk.copy().again()
+                self.assertEqual(desk.names(), [])
 
 
 if __name__ == "__main__":

@@ -1,6 +1,6 @@
 """What every part asks of the objects that it is passed."""
 
-from twoworlds.errors import BadAnswers, BadHands, BadKnown, BadLetters, BadNumber, BadWeight, NoQuestion
+from twoworlds.errors import BadAnswers, BadHands, BadKnown, BadLetters, BadNumber, BadWeight, BadWorld, NoQuestion
 
 SMALL_LETTERS = "abcdefghijklmnopqrstuvwxyz"
 SIGNS = "abcdefghijklmnopqrstuvwxyz0123456789."
@@ -86,6 +86,14 @@ def is_parted(one, other, known, asked):
     return all([one[name] == other[name] for name in known]) and one[asked] != other[asked]
 
 
+def answers_or_none(field, thing):
+    """The answers in a world of a field, None for any object that is none."""
+    try:
+        return field.answers(thing)
+    except BadWorld:
+        return None
+
+
 def first_bad(names, things):
     """The index of the first thing that is none of the names or stood before, 0 for no list, or None."""
     if not is_list(things):
@@ -108,6 +116,11 @@ def first_no_name(things):
             return index
         seen[thing] = True
     return None
+
+
+def are_unlike_names(thing):
+    """Whether any object is a list of unlike names, perhaps empty."""
+    return is_list(thing) and (len(thing) == 0 or first_no_name(thing) is None)
 
 
 def check_known(names, known):

@@ -29,7 +29,7 @@ class Codes:
         for name in classes:
             self._machines[name] = _machine_of_class(letters, classes[name])
         # Files are asked for again and again: what was found once is kept.
-        self._tellings = {}
+        self._kept = {}
 
     def __eq__(self, other):
         if not isinstance(other, Codes) or self._letters != other._letters:
@@ -54,9 +54,9 @@ class Codes:
         """Whether known tells asked."""
         check_both(self._machines, known, asked)
         key = (tuple(sorted(known)), asked)
-        if key not in self._tellings:
-            self._tellings[key] = asked in known or self._looked(known, asked)[1] is None
-        return self._tellings[key]
+        if key not in self._kept:
+            self._kept[key] = asked in known or self._looked(known, asked)[1] is None
+        return self._kept[key]
 
     def plan(self, known, asked):
         """The list of all rows that can end and to which the first one goes on, or None."""
@@ -144,7 +144,7 @@ class Codes:
         if not self.is_reader(known, asked, reader):
             raise BadReader(reader)
         self._check_answers(known, answers)
-        codes, classes = self._parts(known)
+        codes, classes = self._by_kind(known)
         index, symbols = 0, woven([answers[name] for name in codes])
         if symbols is not None:
             index = led_on(reader, index, symbols)
@@ -169,20 +169,20 @@ class Codes:
         check_both(self._machines, known, asked)
         return Pairing(self._crew_of(known, asked), []).look()
 
-    def _parts(self, known):
+    def _by_kind(self, known):
         """The lists of the known codes and of the known classes."""
         codes = [name for name in known if self._machines[name][1] is None]
         return (codes, [name for name in known if name not in codes])
 
     def _maze(self, known, answers):
         """All words that have answers of the right kinds."""
-        codes, classes = self._parts(known)
+        codes, classes = self._by_kind(known)
         marks = tuple([answers[name] for name in classes])
         return Maze(self._crew_of(known, None), [answers[name] for name in codes], marks)
 
     def _are_of_kind(self, known, answers):
         """Whether the answers to known are strings of codes, and integers of classes."""
-        codes, classes = self._parts(known)
+        codes, classes = self._by_kind(known)
         if not all([isinstance(answers[name], str) for name in codes]):
             return False
         return all([is_integer(answers[name]) for name in classes])

@@ -66,7 +66,8 @@ class Twins:
         depths = {pair: 0 for pair in self._steps if left[pair] == 0}
         todo, at = list(depths), 0
         while at < len(todo):
-            for pair in behind[todo[at]]:
+            last = todo[at]
+            for pair in behind[last]:
                 left[pair] -= 1
                 if left[pair] == 0:
                     depths[pair] = 1 + max([depths[step[2]] for step in self._steps[pair]])

@@ -58,8 +58,9 @@ class Maze:
         todo = [node for node in entries if entries[node] == 0]
         at = 0
         while at < len(todo):
-            for _, after in self._steps[todo[at]]:
-                ways[after] += ways[todo[at]]
+            node = todo[at]
+            for _, after in self._steps[node]:
+                ways[after] += ways[node]
                 entries[after] -= 1
                 if entries[after] == 0:
                     todo.append(after)

@@ -90,7 +90,8 @@ class Pairing:
         closings = {node: None for node in self._steps if self._is_end(node)}
         todo, at = list(closings), 0
         while at < len(todo):
-            for node, step in behind[todo[at]]:
+            last = todo[at]
+            for node, step in behind[last]:
                 if node not in closings:
                     closings[node] = step
                     todo.append(node)
