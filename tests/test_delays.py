@@ -20,7 +20,7 @@ def late_by(field, known, asked, n, words):
     seen = {}
     for word in words:
         row = plain_answers(field, word)
-        told = row[asked][:len(row[asked]) - n] if n else row[asked]
+        told = row[asked][:max(0, len(row[asked]) - n)]
         if seen.setdefault(tuple(row[name] for name in known), told) != told:
             return False
     return True

@@ -339,6 +339,53 @@ class TestUndo(unittest.TestCase):
         self.assertEqual(state_of(desk), before)
 
 
+class TestDrawn(unittest.TestCase):
+    """Drawn deeds, and what takes them back, beside a plain list of what was kept behind each of them."""
+
+    def line(self, rng, desk):
+        names, new = desk.names() or ["zz"], rng.choice("uvwxyz")
+        word = rng.choice(list(FORMS))
+        words = {"N": lambda: new, "Q": lambda: rng.choice(["s", "a", "b", "jo", "al", "kay"]), "K": lambda: rng.choice("01")}
+        return " ".join([word, *[words.get(sort, lambda: rng.choice(names))() for sort in FORMS[word].split()]])
+
+    def test_drawn(self):
+        rng = random.Random(112)
+        made = 0
+        for _ in range(60):
+            desk, past, future = Desk(), [[]], []
+            for _ in range(30):
+                before = state_of(desk)
+                draw = rng.random()
+                if draw < 0.15:
+                    self.assertIs(desk.undo(), len(past) > 1)
+                    if len(past) > 1:
+                        future.append(past.pop())
+                elif draw < 0.3:
+                    self.assertIs(desk.again(), len(future) > 0)
+                    if future:
+                        past.append(future.pop())
+                else:
+                    name = rng.choice(list(THINGS))
+                    line = self.line(rng, desk) if draw < 0.8 else None
+                    try:
+                        told = desk.keep(name, THINGS[name]) if line is None else desk.told(line)
+                    except ValueError:
+                        self.assertEqual(state_of(desk), before)
+                        continue
+                    if line is None or told == "done" and line.split(" ")[0] not in ("text", "names"):
+                        made += 1
+                        kind = "table" if name == "t" else "hands" if name in "ho" else "links"
+                        future = []
+                        past.append([*past[-1], f"keep {name} {kind}" if line is None else line])
+                    else:
+                        self.assertEqual(state_of(desk), before)
+                self.assertEqual(desk.log(), past[-1])
+                twin = replayed(desk.log(), THINGS)
+                self.assertEqual([(name, texts_of(twin, name)) for name in twin.names()],
+                                 [(name, texts_of(desk, name)) for name in desk.names()])
+        self.assertGreater(made, 300)
+
+
 class TestReplayed(unittest.TestCase):
     def test_replayed(self):
         desk = new_desk()

@@ -1,7 +1,6 @@
 """Bundles: fields whose questions are bundles of questions of a field."""
 
-from twoworlds.checks import alike, answers_or_none, check_both, check_lacking, first_bad, is_list, is_name, is_pair
-from twoworlds.checks import is_parted
+from twoworlds.checks import alike, are_worlds_apart, check_both, check_lacking, first_bad, is_list, is_name
 from twoworlds.errors import BadAnswers, BadBundle, BadPlan
 
 
@@ -82,10 +81,7 @@ class Bundles:
     def are_apart(self, known, asked, thing):
         """Whether any object is such a pair of worlds of the field."""
         check_both(self._bundles, known, asked)
-        if not is_pair(thing):
-            return False
-        one, other = answers_or_none(self, thing[0]), answers_or_none(self, thing[1])
-        return one is not None and other is not None and is_parted(one, other, known, asked)
+        return are_worlds_apart(self, known, asked, thing)
 
     def bundles(self):
         """The dict from the names to the lists of questions."""

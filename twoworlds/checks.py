@@ -94,6 +94,14 @@ def answers_or_none(field, thing):
         return None
 
 
+def are_worlds_apart(field, known, asked, thing):
+    """Whether any object is a pair of worlds of a field that agree in known and part in asked."""
+    if not is_pair(thing):
+        return False
+    one, other = answers_or_none(field, thing[0]), answers_or_none(field, thing[1])
+    return one is not None and other is not None and is_parted(one, other, known, asked)
+
+
 def first_bad(names, things):
     """The index of the first thing that is none of the names or stood before, 0 for no list, or None."""
     if not is_list(things):

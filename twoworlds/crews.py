@@ -4,6 +4,8 @@ A MACHINE is a pair (moves, marks): a dict from states to dicts from letters to 
 (state, shown), and a dict from states to marks, or None for a code.
 """
 
+from twoworlds.checks import is_list, is_one_of
+
 
 class Crew:
     """The machines of known questions, in order, and behind them that of an asked one, if there is one.
@@ -78,9 +80,9 @@ class Crew:
 
     def is_spot(self, thing):
         """Whether any object is a list of states, one of each machine."""
-        if not isinstance(thing, (list, tuple)) or len(thing) != len(self._machines):
+        if not is_list(thing) or len(thing) != len(self._machines):
             return False
-        return all([isinstance(state, str) and state in moves for (moves, _), state in zip(self._machines, thing)])
+        return all([is_one_of(moves, state) for (moves, _), state in zip(self._machines, thing)])
 
     def _move(self, spot, letter):
         """The number behind a letter, and what is shown for it by the known ones, and by the asked one."""

@@ -82,18 +82,18 @@ def plan_for(joint, n):
     groups, at = [((0, ""),)], 0
     numbers, rows = {groups[0]: 0}, {}
     while at < len(groups):
-        read = {}
-        for state, kept in groups[at]:
+        group, read = groups[at], {}
+        for state, kept in group:
             read.setdefault(tells[state][:-1], []).append((state, *_shifted(kept, tells[state][-1], n)))
         row = {}
         for digits in sorted(read):
             if len(set([digit for _, digit, _ in read[digits]])) > 1:
                 return None
-            group = tuple(sorted({(after, kept) for state, _, kept in read[digits] for after in nexts[state]}))
-            if group not in numbers:
-                numbers[group] = len(groups)
-                groups.append(group)
-            row[digits] = (read[digits][0][1], f"s{numbers[group]}")
+            after = tuple(sorted({(later, kept) for state, _, kept in read[digits] for later in nexts[state]}))
+            if after not in numbers:
+                numbers[after] = len(groups)
+                groups.append(after)
+            row[digits] = (read[digits][0][1], f"s{numbers[after]}")
         rows[f"s{at}"] = row
         at += 1
     return ("s0", rows)

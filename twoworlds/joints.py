@@ -37,13 +37,14 @@ def least_of(letters, joint):
     nexts, tells = merged(joint)
     met, at = [0], 0
     while at < len(met):
-        for after in nexts[met[at]]:
+        state = met[at]
+        for after in nexts[state]:
             if after not in met:
                 met.append(after)
         at += 1
-    names = {state: f"s{place}" for place, state in enumerate(met)}
-    return ("s0", {names[state]: (int(tells[state]), {letter: names[after] for letter, after in zip(
-        letters, nexts[state])}) for state in met})
+    names = {one: f"s{place}" for place, one in enumerate(met)}
+    return ("s0", {names[one]: (int(tells[one]), {letter: names[other] for letter, other in zip(letters, nexts[one])})
+                   for one in met})
 
 
 def told_along(joint, places):

@@ -1,6 +1,6 @@
 """Mixes: fields made of others that have nothing to do with one another."""
 
-from twoworlds.checks import answers_or_none, check_both, check_lacking, has_just, is_name, is_pair, is_parted
+from twoworlds.checks import answers_or_none, are_worlds_apart, check_both, check_lacking, has_just, is_name
 from twoworlds.errors import BadAnswers, BadPart, BadPlan, BadWorld
 
 
@@ -82,10 +82,7 @@ class Mix:
     def are_apart(self, known, asked, thing):
         """Whether any object is such a pair of worlds."""
         check_both(self._sources, known, asked)
-        if not is_pair(thing):
-            return False
-        one, other = answers_or_none(self, thing[0]), answers_or_none(self, thing[1])
-        return one is not None and other is not None and is_parted(one, other, known, asked)
+        return are_worlds_apart(self, known, asked, thing)
 
     def parts(self):
         """The dict of the fields."""

@@ -41,7 +41,8 @@ def least_reader_for(crew):
     firsts = first_alike(keys, nexts)
     numbers, met, at = {0: 0}, [0], 0
     while at < len(met):
-        for after in nexts[met[at]]:
+        last = met[at]
+        for after in nexts[last]:
             if firsts[after] not in numbers:
                 numbers[firsts[after]] = len(met)
                 met.append(firsts[after])
@@ -76,16 +77,17 @@ def _beginnings(crew, merged):
     groups, at = [_grown(merged, [(0, "")])], 0
     numbers, tables, steps = {groups[0]: 0}, [], []
     while at < len(groups):
-        table = {merged[number][0]: merged[number][1] for number, rest in groups[at] if rest == ""}
+        group = groups[at]
+        table = {merged[number][0]: merged[number][1] for number, rest in group if rest == ""}
         tables.append({marks: table[marks] for marks in sorted(table)})
         steps.append({})
-        for symbol in sorted({crew.symbols(rest)[0] for _, rest in groups[at] if rest != ""}):
-            read = [(number, rest[len(symbol):]) for number, rest in groups[at] if rest.startswith(symbol)]
-            group = _grown(merged, read)
-            if group not in numbers:
-                numbers[group] = len(groups)
-                groups.append(group)
-            steps[at][symbol] = numbers[group]
+        symbols = sorted({crew.symbols(rest)[0] for _, rest in group if rest != ""})
+        for symbol in symbols:
+            after = _grown(merged, [(number, rest[len(symbol):]) for number, rest in group if rest.startswith(symbol)])
+            if after not in numbers:
+                numbers[after] = len(groups)
+                groups.append(after)
+            steps[at][symbol] = numbers[after]
         at += 1
     return (tables, steps)
 

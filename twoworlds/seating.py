@@ -82,7 +82,7 @@ def seated(windows, fixed):
     for name in fixed:
         row[fixed[name]] = name
     waiting = [name for name in windows if name not in fixed]
-    for place in range(len(row)):
+    for place in range(len(windows)):
         if row[place] is None:
             # Of all who can stand here, the one who must come first leaves most to the others.
             ready = [name for name in waiting if is_within(windows[name], place)]
