@@ -109,6 +109,8 @@ class TestTalked(unittest.TestCase):
                 for place, name in enumerate(hands)}
             self.assertEqual(all_talked(field, hands, links), whole)
             self.assertEqual(list(all_talked(field, hands, links)), list(hands))
+            fewer = all_talked(field, hands, links[1:])
+            self.assertTrue(all(set(fewer[name]) <= set(whole[name]) for name in hands))
             # In whatever order, as long as something new can be told, it ends there.
             while True:
                 new = [telling for telling in plain.tellings(state) if plain.behind(state, telling) != state]
